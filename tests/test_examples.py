@@ -1,0 +1,143 @@
+"""The examples of the document's interface, as they stand there."""
+
+import unittest
+
+from tests.helpers import run_examples
+
+ERRORS = """
+    >>> from whatrims.errors import BadName, BadText, Clash
+    >>> [BadText(3).place, Clash(("a", "b")).names, BadName(["a", None]).name]
+    [3, ('a', 'b'), ['a', None]]
+"""
+
+GLUINGS = """
+    >>> from whatrims.gluings import beside, is_gluing, mate_of, mirrored, named, next_side, one_tile, part_of, parted, rim_sides, tied
+    >>> TWO = ((4, 3), (((0, 1), (1, 2)),))
+    >>> [is_gluing(TWO), is_gluing(((4, 3), (((1, 2), (0, 1)),))), is_gluing(((2,), ())), is_gluing([(4,), ()])]
+    [True, False, False, False]
+    >>> [mate_of(TWO, (1, 2)), mate_of(TWO, (0, 0)), next_side(TWO, (0, 3)), rim_sides(TWO)]
+    [(0, 1), None, (0, 0), [(0, 0), (0, 2), (0, 3), (1, 0), (1, 1)]]
+    >>> [tied(beside(one_tile(4), one_tile(3)), (1, 2), (0, 1)) == TWO, parted(TWO, (0, 1)), part_of(TWO, [1])]
+    [True, ((4, 3), ()), ((3,), ())]
+    >>> [named(TWO, (1, 0), (1, 0)), mirrored(TWO), mirrored(mirrored(TWO)) == TWO]
+    [((3, 4), (((0, 2), (1, 0)),)), ((4, 3), (((0, 2), (1, 0)),)), True]
+"""
+
+TEXTS = """
+    >>> from whatrims.texts import gluing_text, read_gluing, read_word, word_text
+    >>> [gluing_text(TWO), gluing_text(one_tile(5)), word_text((2, 1, 1))]
+    ['4 3;0.1=1.2', '5', '2 1 1']
+    >>> [read_gluing("4 3;0.1=1.2") == TWO, read_gluing("24"), read_word("2 1 1")]
+    [True, ((24,), ()), (2, 1, 1)]
+    >>> read_gluing("4 2")
+    raises BadText(place=3)
+    >>> read_gluing("4 3;0.1=0.1")
+    raises BadText(place=11)
+    >>> read_gluing("4 3;")
+    raises BadText(place=4)
+    >>> read_gluing("4 3;7.0=1.2")
+    raises BadText(place=7)
+    >>> read_gluing("4 4;0.1=1.3 0.0=1.0")
+    raises BadText(place=19)
+"""
+
+CORNERS = """
+    >>> from whatrims.corners import backward, corner_of, corners, is_inner, onward
+    >>> TWO = ((4, 4), (((0, 1), (1, 3)),))
+    >>> BLOCK = ((4, 4, 4, 4), (((0, 1), (1, 3)), ((0, 2), (3, 0)), ((1, 2), (2, 0)), ((2, 3), (3, 1))))
+    >>> [onward(TWO, (0, 1)), onward(TWO, (1, 0)), backward(TWO, (1, 0)), backward(TWO, (0, 2)), onward(BLOCK, (0, 2))]
+    [(1, 0), None, (0, 1), (1, 3), (3, 1)]
+    >>> [corner_of(TWO, (0, 2)), corner_of(BLOCK, (2, 0)), is_inner(BLOCK, corner_of(BLOCK, (2, 0))), is_inner(TWO, ((0, 0),))]
+    [((1, 3), (0, 2)), ((0, 2), (3, 1), (2, 0), (1, 3)), True, False]
+    >>> corners(TWO)
+    [((0, 0),), ((0, 1), (1, 0)), ((1, 3), (0, 2)), ((0, 3),), ((1, 1),), ((1, 2),)]
+"""
+
+RIMS = """
+    >>> from whatrims.rims import next_rim_side, rim_of, rim_word, rim_words, rims
+    >>> BAND = ((4, 4), (((0, 1), (1, 3)), ((0, 3), (1, 1))))
+    >>> [next_rim_side(TWO, (0, 0)), next_rim_side(TWO, (1, 2)), next_rim_side(BAND, (1, 0)), rims(BAND)]
+    [(1, 0), (0, 2), (0, 0), [((0, 0), (1, 0)), ((0, 2), (1, 2))]]
+    >>> [rim_of(TWO, (0, 2)), rim_word(TWO, (0, 0)), rim_word(TWO, (0, 2)), rim_words(BAND)]
+    [((0, 2), (0, 3), (0, 0), (1, 0), (1, 1), (1, 2)), (1, 2, 1, 1, 2, 1), (2, 1, 1, 2, 1, 1), [(2, 2), (2, 2)]]
+"""
+
+PIECES = """
+    >>> from whatrims.pieces import apart, counts, handles, is_ball, is_disc, is_of, kind_fault, layers, over_sides, pieces, touching, twice, worth
+    >>> [counts(TWO), counts(BLOCK), worth(BLOCK), worth(BAND), handles(BAND), is_disc(BLOCK), is_disc(BAND)]
+    [(2, 7, 6, 0), (4, 12, 9, 1), 1, 0, 0, True, False]
+    >>> [pieces(((3, 4, 3), (((0, 0), (2, 1)),))), twice(BAND), twice(((4,), (((0, 0), (0, 2)),))), is_ball(((3, 3), (((0, 0), (1, 0)), ((0, 1), (1, 2)), ((0, 2), (1, 1)))))]
+    [[(0, 2), (1,)], [], [0], True]
+    >>> [is_of(BLOCK, 4, 4), kind_fault(BLOCK, 4, 5), kind_fault(TWO, 4, 3), kind_fault(BLOCK, 3, 6), kind_fault(TWO, 4, 4)]
+    [True, ('inner', ((0, 2), (3, 1), (2, 0), (1, 3))), None, ('tile', 0), None]
+    >>> [over_sides(BLOCK, 0), touching(BLOCK, 0), touching(TWO, 1), apart(BLOCK, 0, 2), layers(BLOCK, 0), apart(((3, 4, 3), (((0, 0), (2, 1)),)), 0, 1)]
+    [(None, 1, 3, None), [1, 2, 3], [0], 2, [(0,), (1, 3), (2,)], None]
+"""
+
+SUMS = """
+    >>> from whatrims.sums import back_word, ball_counts, corners_gap, corners_sum, floor_of, least_turn, over_corners, over_tiles
+    >>> from whatrims.sums import rim_corners_sum, rim_length, rim_sum, tiles_sum, turned_word, worth_corners, worth_sum
+    >>> [floor_of(5, 3), floor_of(4, 4), floor_of(7, 3), ball_counts(5, 3), ball_counts(3, 4), ball_counts(4, 4)]
+    ['ball', 'flat', 'wide', (12, 30, 20), (8, 12, 6), None]
+    >>> [turned_word((1, 1, 2, 3), 2), least_turn((2, 1, 3, 1)), back_word((1, 1, 2, 3))]
+    [(2, 3, 1, 1), (1, 2, 1, 3), (3, 2, 1, 1)]
+    >>> TWO_SQUARES = ((4, 4), (((0, 1), (1, 3)),))
+    >>> [tiles_sum(TWO_SQUARES, 4), worth_sum(TWO_SQUARES, 4), tiles_sum(TWO_SQUARES, 5), worth_sum(TWO_SQUARES, 5), over_corners(TWO_SQUARES, 5)]
+    [0, 0, -4, -4, 0]
+    >>> [corners_sum(TWO_SQUARES, 4), worth_corners(TWO_SQUARES, 4), over_tiles(TWO_SQUARES, 3), corners_gap(TWO_SQUARES, 3)]
+    [0, 0, 2, 4]
+    >>> [rim_sum(5, (2, 1, 2, 1, 2) * 2), rim_corners_sum(4, (1, 1, 2, 1, 1, 2)), rim_length(4, 4, 1), rim_length(6, 3, 0)]
+    [-8, 0, 8, 14]
+"""
+
+DRAWN = """
+    >>> from whatrims.drawn import area_of, comes_home, cross_sum, drawn, judge_unlike, size_of, sized_words, sizes_told, touches
+    >>> from whatrims.drawn import turns_of, unlike_sizes
+    >>> drawn(6, 3, (1,) * 6)
+    [(0, 0), (1, 0), (1, 1), (0, 2), (-1, 2), (-1, 1), (0, 0)]
+    >>> [drawn(4, 4, (1, 1, 1, 2, 1)), turns_of(4, 4, (1, 1, 1, 2, 1)), comes_home(4, 4, (1, 1, 1, 2, 1)), comes_home(4, 4, (1, 2) * 4)]
+    [[(0, 0), (1, 0), (1, 1), (0, 1), (-1, 1), (-1, 0)], 4, False, True]
+    >>> [cross_sum(drawn(6, 3, (1,) * 6)), area_of(6, 3, (1,) * 6), area_of(3, 6, (2,) * 6), area_of(4, 4, (1, 2) * 4), touches(4, 4, (1, 2) * 4)]
+    [6, 1, 6, 4, []]
+    >>> [size_of(5, 3, (1,) * 5), size_of(4, 5, (2, 1, 2, 1, 2) * 3), size_of(7, 3, (1,) * 7), size_of(4, 5, (1, 1, 1))]
+    [('size', 1, 0), ('none', ((17, 2), (2, 1))), ('size', 1, 0), ('none', ((-1, 2), (-1, 1)))]
+    >>> [size_of(4, 4, (1, 2) * 4), size_of(4, 4, (1, 2, 2, 1, 1, 2, 2, 1)), size_of(4, 4, (1, 1, 1)), size_of(4, 4, (1, 1, 1, 2, 1))]
+    [('size', 4, 1), ('size', 3, 0), ('none', ('turns', 3)), ('none', ('open', (-1, 0)))]
+    >>> [size_of(4, 4, (1, 3, 1, 1) * 2), touches(4, 4, (1, 3, 1, 1) * 2)]
+    [('none', ('area', 2)), [(1, 5)]]
+    >>> [unlike_sizes(7, 3), judge_unlike(4, 4, unlike_sizes(4, 4)), judge_unlike(4, 4, ("words", (1, 2) * 4, (1, 2, 2, 1, 1, 2, 2, 1))), judge_unlike(4, 4, ("words", (1, 2) * 4, (1, 1, 1, 1))), judge_unlike(4, 4, None)]
+    [None, None, None, ('length',), ('flat',)]
+    >>> [sized_words(4, 4, 4), sized_words(4, 4, 6), sizes_told(4, 4, 8)]
+    [[(1, 1, 1, 1)], [(1, 1, 2, 1, 1, 2)], [3, 4]]
+"""
+
+
+class Examples(unittest.TestCase):
+    def test_errors(self):
+        run_examples(self, ERRORS)
+
+    def test_gluings(self):
+        run_examples(self, GLUINGS)
+
+    def test_texts(self):
+        # The examples of texts go on with the names of those of gluings.
+        run_examples(self, GLUINGS + TEXTS.lstrip("\n"))
+
+    def test_corners(self):
+        run_examples(self, CORNERS)
+
+    def test_rims(self):
+        run_examples(self, CORNERS + RIMS.lstrip("\n"))
+
+    def test_pieces(self):
+        run_examples(self, CORNERS + RIMS.lstrip("\n") + PIECES.lstrip("\n"))
+
+    def test_sums(self):
+        run_examples(self, SUMS)
+
+    def test_drawn(self):
+        run_examples(self, DRAWN)
+
+
+if __name__ == "__main__":
+    unittest.main()

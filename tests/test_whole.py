@@ -1,0 +1,214 @@
+"""What holds for all calls: nothing passed is changed, what is returned is new and the same each time."""
+
+import ast
+import copy
+import inspect
+import pathlib
+import unittest
+
+import whatrims
+from tests.helpers import APART, BAND, BLOCK, FOLDED, NAMED, ONE, TWO, exactly_equal
+from whatrims import corners, drawn, errors, gluings, pieces, rims, sums, texts
+from whatrims.errors import BadText
+
+WORD = (1, 2) * 4
+
+# Each function of the interface, with what it is passed.
+CALLS = (
+    (gluings.is_gluing, [TWO], [[(4,), ()]], [((4,), [[(0, 0), [0, 1]]])], [{"a": [1]}]),
+    (gluings.is_side, [TWO, (0, 0)], [TWO, [0, [0]]], [TWO, {"a": []}]),
+    (gluings.sides_of, [TWO]),
+    (gluings.rim_sides, [TWO]),
+    (gluings.mate_of, [TWO, (0, 1)], [TWO, (0, 0)]),
+    (gluings.next_side, [TWO, (0, 3)]),
+    (gluings.side_before, [TWO, (0, 0)]),
+    (gluings.one_tile, [5]),
+    (gluings.beside, [TWO, BAND]),
+    (gluings.tied, [TWO, (0, 0), (1, 1)]),
+    (gluings.parted, [TWO, (0, 1)]),
+    (gluings.part_of, [APART, [0, 2]], [APART, (0, 2)]),
+    (gluings.named, [TWO, (1, 0), (2, 3)]),
+    (gluings.mirrored, [TWO]),
+    (texts.gluing_text, [TWO]),
+    (texts.word_text, [WORD]),
+    (texts.read_gluing, ["4 4;0.1=1.3"]),
+    (texts.read_word, ["1 2 3"]),
+    (corners.onward, [TWO, (0, 1)]),
+    (corners.backward, [TWO, (0, 2)]),
+    (corners.corner_of, [TWO, (0, 2)]),
+    (corners.is_inner, [TWO, ((0, 0),)]),
+    (corners.corners, [BLOCK]),
+    (rims.next_rim_side, [TWO, (0, 0)]),
+    (rims.rims, [BAND]),
+    (rims.rim_of, [TWO, (0, 2)]),
+    (rims.rim_word, [TWO, (0, 2)]),
+    (rims.rim_words, [BAND]),
+    (pieces.pieces, [APART]),
+    (pieces.counts, [BLOCK]),
+    (pieces.worth, [BLOCK]),
+    (pieces.handles, [BAND]),
+    (pieces.twice, [FOLDED]),
+    (pieces.is_disc, [BLOCK]),
+    (pieces.is_ball, [BLOCK]),
+    (pieces.kind_fault, [BLOCK, 4, 5], [BLOCK, 4, 4]),
+    (pieces.is_of, [BLOCK, 4, 4]),
+    (pieces.over_sides, [BLOCK, 0]),
+    (pieces.touching, [BLOCK, 0]),
+    (pieces.apart, [BLOCK, 0, 2]),
+    (pieces.layers, [BLOCK, 0]),
+    (sums.floor_of, [4, 4]),
+    (sums.ball_counts, [5, 3]),
+    (sums.turned_word, [WORD, 3]),
+    (sums.least_turn, [WORD]),
+    (sums.back_word, [WORD]),
+    (sums.tiles_sum, [TWO, 4]),
+    (sums.worth_sum, [TWO, 4]),
+    (sums.over_corners, [BLOCK, 5]),
+    (sums.corners_sum, [BLOCK, 4]),
+    (sums.worth_corners, [BLOCK, 4]),
+    (sums.over_tiles, [BLOCK, 3]),
+    (sums.corners_gap, [BLOCK, 3]),
+    (sums.rim_sum, [4, WORD]),
+    (sums.rim_corners_sum, [4, WORD]),
+    (sums.rim_length, [4, 4, 1]),
+    (drawn.drawn, [4, 4, WORD]),
+    (drawn.turns_of, [4, 4, WORD]),
+    (drawn.comes_home, [4, 4, WORD]),
+    (drawn.touches, [4, 4, (1,) * 8]),
+    (drawn.cross_sum, [[(0, 0), (1, 0), (1, 1), (0, 0)]], [((0, 0), (1, 0), (1, 1), (0, 0))]),
+    (drawn.area_of, [4, 4, WORD]),
+    (drawn.size_of, [4, 4, WORD], [4, 5, WORD], [4, 4, (1, 1, 1)]),
+    (drawn.unlike_sizes, [4, 4], [3, 6], [6, 3], [7, 3]),
+    (drawn.judge_unlike, [4, 4, ("words", WORD, WORD)], [4, 4, ["words", [1, 2], {"a": []}]], [4, 4, None]),
+    (drawn.sized_words, [4, 4, 6]),
+    (drawn.sizes_told, [4, 4, 8]),
+)
+
+PARAMETERS = """
+is_gluing(value), is_side(gluing, value), sides_of(gluing), rim_sides(gluing), mate_of(gluing, side)
+next_side(gluing, side), side_before(gluing, side); one_tile(s), beside(one, other), tied(gluing, one, other)
+parted(gluing, side), part_of(gluing, tiles); named(gluing, order, firsts), mirrored(gluing)
+gluing_text(gluing), word_text(word); read_gluing(text), read_word(text)
+onward(gluing, share); backward(gluing, share); corner_of(gluing, share); is_inner(gluing, corner); corners(gluing)
+next_rim_side(gluing, side); rims(gluing); rim_of(gluing, side); rim_word(gluing, side); rim_words(gluing)
+pieces(gluing); counts(gluing); worth(gluing); handles(gluing); twice(gluing); is_disc(gluing); is_ball(gluing)
+kind_fault(gluing, p, q); is_of(gluing, p, q); over_sides(gluing, t); touching(gluing, t); apart(gluing, t, u)
+layers(gluing, t)
+floor_of(p, q); ball_counts(p, q); turned_word(word, k); least_turn(word); back_word(word); tiles_sum(gluing, q)
+worth_sum(gluing, q); over_corners(gluing, q); corners_sum(gluing, p); worth_corners(gluing, p)
+over_tiles(gluing, p); corners_gap(gluing, p); rim_sum(q, word); rim_corners_sum(p, word); rim_length(p, n, v)
+drawn(p, q, word); turns_of(p, q, word); comes_home(p, q, word); touches(p, q, word); cross_sum(places)
+area_of(p, q, word); size_of(p, q, word); unlike_sizes(p, q); judge_unlike(p, q, value); sized_words(p, q, b)
+sizes_told(p, q, b)
+"""
+
+
+def lists_in(value):
+    """Return all lists and dicts in a value, at any depth."""
+    found = [value] if isinstance(value, (list, dict)) else []
+    parts = value if isinstance(value, (list, tuple)) else list(value.values()) if isinstance(value, dict) else []
+    for part in parts:
+        found += lists_in(part)
+    return found
+
+
+class Calls(unittest.TestCase):
+    def test_nothing_that_is_passed_is_changed(self):
+        for function, *all_passed in CALLS:
+            for passed in all_passed:
+                kept = copy.deepcopy(passed)
+                function(*passed)
+                self.assertTrue(exactly_equal(passed, kept), function)
+
+    def test_a_repeated_call_returns_an_equal_value(self):
+        for function, *all_passed in CALLS:
+            for passed in all_passed:
+                self.assertTrue(exactly_equal(function(*passed), function(*copy.deepcopy(passed))), function)
+
+    def test_returned_lists_are_new_and_the_callers_own(self):
+        for function, *all_passed in CALLS:
+            for passed in all_passed:
+                first = function(*passed)
+                kept = copy.deepcopy(first)
+                second = function(*passed)
+                lists = lists_in(first) + lists_in(second) + lists_in(passed)
+                self.assertEqual(len({id(each) for each in lists}), len(lists), function)
+                for each in lists_in(first):
+                    each.clear()
+                self.assertTrue(exactly_equal(function(*passed), kept), function)
+                self.assertTrue(exactly_equal(second, kept), function)
+
+    def test_lists_where_the_document_says_lists(self):
+        for function, passed in ((gluings.sides_of, [TWO]), (gluings.rim_sides, [TWO]), (corners.corners, [TWO]),
+                                 (rims.rims, [BAND]), (rims.rim_words, [BAND]), (pieces.pieces, [APART]),
+                                 (pieces.twice, [FOLDED]), (pieces.touching, [BLOCK, 0]), (pieces.layers, [BLOCK, 0]),
+                                 (drawn.drawn, [4, 4, WORD]), (drawn.touches, [4, 4, (1,) * 8]),
+                                 (drawn.sized_words, [4, 4, 4]), (drawn.sizes_told, [4, 4, 4])):
+            told = function(*passed)
+            self.assertIs(type(told), list)
+            self.assertEqual(lists_in(told), [told])
+            self.assertNotEqual(told, [])
+
+    def test_errors_that_no_point_names_are_not_raised(self):
+        for gluing in NAMED + [((3,) * 60, ()), ((24,) * 60, tuple(((t, 0), (t + 1, 1)) for t in range(59)))]:
+            for part in (gluings, corners, rims, pieces):
+                for function in vars(part).values():
+                    if inspect.isfunction(function) and list(inspect.signature(function).parameters) == ["gluing"]:
+                        if not function.__name__.startswith("_") and function is not pieces.handles:
+                            function(gluing)
+
+    def test_a_repeated_error_is_an_equal_one(self):
+        places = []
+        for _ in range(2):
+            with self.assertRaises(BadText) as caught:
+                texts.read_gluing("4 3;7.0")
+            places.append(caught.exception.place)
+        self.assertEqual(places, [7, 7])
+
+
+class Interface(unittest.TestCase):
+    def test_each_function_stands_in_its_file_with_its_arguments(self):
+        due = {}
+        for row in PARAMETERS.replace(";", ",").replace("), ", ")\n").splitlines():
+            if row:
+                name, _, told = row.strip(")").partition("(")
+                due[name] = told.split(", ")
+        self.assertEqual(sorted(due), sorted(function.__name__ for function, *_ in CALLS))
+        for function, *_ in CALLS:
+            self.assertEqual(list(inspect.signature(function).parameters), due[function.__name__])
+
+    def test_files_define_what_they_list(self):
+        for part in (gluings, texts, corners, rims, pieces, sums, drawn):
+            listed = [function.__name__ for function, *_ in CALLS if inspect.getmodule(function) is part]
+            defined = [row.name for row in ast.parse(inspect.getsource(part)).body if isinstance(row, ast.FunctionDef)]
+            self.assertEqual([name for name in listed if name not in defined], [])
+            self.assertTrue(listed)
+        self.assertEqual(len(CALLS), len({function for function, *_ in CALLS}))
+
+
+class Sources(unittest.TestCase):
+    def test_sizes_and_characters(self):
+        for path in sorted(pathlib.Path(whatrims.__file__).parent.rglob("*")):
+            if path.is_dir() or "__pycache__" in path.parts:
+                continue
+            text = path.read_bytes().decode("ascii")
+            rows = text.splitlines()
+            self.assertEqual(path.suffix, ".py")
+            self.assertLess(len(rows), 400)
+            self.assertTrue(all(len(row) <= 120 for row in rows), path)
+            self.assertTrue(all(sign == "\n" or " " <= sign <= "~" for sign in text), path)
+            for node in ast.walk(ast.parse(text)):
+                if isinstance(node, ast.FunctionDef):
+                    self.assertLessEqual(node.end_lineno - node.lineno + 1, 40, (path, node.name))
+
+    def test_imports_are_of_the_package_or_of_what_may_be_called(self):
+        for part in (errors, gluings, texts, corners, rims, pieces, sums, drawn):
+            for node in ast.walk(ast.parse(inspect.getsource(part))):
+                self.assertNotIsInstance(node, ast.Import)
+                if isinstance(node, ast.ImportFrom):
+                    names = [alias.name for alias in node.names]
+                    self.assertTrue(node.module.startswith("whatrims.") or (node.module, names) == ("math", ["gcd"]))
+
+
+if __name__ == "__main__":
+    unittest.main()

@@ -1,0 +1,1 @@
+"""Discs of tiles, what their rims tell, and which rims there are."""
