@@ -21,6 +21,10 @@ PIERCED_TORUS = ((5,), (((0, 0), (0, 2)), ((0, 1), (0, 3))))
 NAMED = [ONE, TWO, BLOCK, BAND, APART, BALL, TETRAHEDRON, TORUS, FOLDED, FOLDED_BALL, TUBE, PIERCED_TORUS]
 
 
+# Values that are nothing that a point asks for.
+STRANGE = [None, True, False, 0, 1, -1, 4, 10 ** 39, "", "4 3", "ab", (), [], {}, (1,), [1], {"a": 1}, {0: (4,), 1: ()}]
+
+
 def gluings_of(sizes):
     """Return all gluings of tiles of these sizes."""
     sides = [(t, i) for t, size in enumerate(sizes) for i in range(size)]
@@ -68,6 +72,21 @@ def discs_of(p, q, n):
                         laid.append(more)
         latest = sorted(set(laid))
         found = found + latest
+    return found
+
+
+def changes(value, into):
+    """Return all copies of a value in which one part, at any depth, is another one, or is gone or doubled."""
+    found = [other for other in into]
+    if isinstance(value, tuple):
+        found.append(list(value))
+        for k, part in enumerate(value):
+            found += [value[:k] + (other,) + value[k + 1:] for other in changes(part, into)]
+            found.append(value[:k] + value[k + 1:])
+            found.append(value[:k] + (part, part) + value[k + 1:])
+        found.append(value[::-1])
+    if value in (0, 1) and not isinstance(value, bool):
+        found.append(bool(value))
     return found
 
 

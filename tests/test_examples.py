@@ -111,6 +111,56 @@ DRAWN = """
     [[(1, 1, 1, 1)], [(1, 1, 2, 1, 1, 2)], [3, 4]]
 """
 
+LAYING = """
+    >>> from whatrims.laying import begins, built, is_layings, laid, laid_word, lays, may_lay
+    >>> SQUARE = ((4,), ())
+    >>> [laid(SQUARE, (0, 1), 1, 4), laid(laid(SQUARE, (0, 1), 1, 4), (0, 0), 2, 3)]
+    [((4, 4), (((0, 1), (1, 0)),)), ((4, 4, 3), (((0, 0), (2, 1)), ((0, 1), (1, 0)), ((1, 1), (2, 0))))]
+    >>> [laid_word((1, 1, 1, 1), 1, 1, 4), laid_word((1, 1, 1, 1), 3, 2, 4), laid_word((1, 2, 1, 1, 2, 1), 0, 2, 3)]
+    [(1, 2, 1, 1, 2, 1), (2, 1, 2, 1), (2, 2, 1, 2, 1)]
+    >>> [may_lay(4, 4, (1, 2, 1, 1, 2, 1), 0, 2), may_lay(4, 3, (1, 2, 1, 1, 2, 1), 0, 2), may_lay(4, 3, (1, 2, 1, 1, 2, 1), 1, 1), lays(4, 3, (1, 2, 1, 1, 2, 1))]
+    [False, True, False, [(0, 2), (2, 1), (3, 2), (5, 1)]]
+    >>> LAYINGS = ((4,), (1, 1, 4), (0, 2, 4))
+    >>> [built(LAYINGS[:2]), begins(LAYINGS[:2]), begins(LAYINGS), is_layings(LAYINGS), is_layings(((4, 4),)), is_layings(((4,), (0, 1)))]
+    [((4, 4), (((0, 1), (1, 0)),)), (0, 0), (2, 2), True, False, False]
+    >>> built(((4,), (4, 1, 4)))
+    raises NotLaid(number=1)
+"""
+
+TAKING = """
+    >>> from whatrims.taking import judge_layings, layings_of, not_disc, taken, takers, takings
+    >>> ROW = ((4, 4, 4), (((0, 1), (1, 3)), ((1, 1), (2, 3))))
+    >>> [taken(ROW, 0), takers(ROW), takers(SQUARE), takings(ROW), takings(SQUARE), layings_of(SQUARE)]
+    [((4, 4), (((0, 1), (1, 3)),)), [0, 2], [], 4, 1, ((4,),)]
+    >>> [judge_layings(taken(ROW, 0), ((4,), (0, 1, 4))), judge_layings(ROW, ((4,), (0, 1, 4), (0, 7, 4))), judge_layings(ROW, ((4,), (0, 1, 4))), judge_layings(ROW, ((4,), (0, 1)))]
+    [None, ('laid', 2), ('unlike',), ('form',)]
+    >>> BAND = ((4, 4), (((0, 1), (1, 3)), ((0, 3), (1, 1))))
+    >>> [not_disc(ROW), not_disc(((4, 4), ())), not_disc(BAND), not_disc(((3,), (((0, 0), (0, 1)),)))]
+    [None, ('pieces', [(0,), (1,)]), ('rims', [((0, 0), (1, 0)), ((0, 2), (1, 2))]), ('twice', 0)]
+"""
+
+FORMS = """
+    >>> from whatrims.forms import code, form, is_form, is_like, is_mirrorlike, judge_likening, likening, mirror_form, starts
+    >>> SQUARE, PAIR = ((4,), ()), ((4, 4), (((0, 1), (1, 3)),))
+    >>> [code(PAIR, (1, 0)), form(PAIR), starts(PAIR), starts(SQUARE)]
+    [((4, 4), (((0, 3), (1, 0)),)), ((4, 4), (((0, 0), (1, 0)),)), [(0, 1), (1, 3)], [(0, 0), (0, 1), (0, 2), (0, 3)]]
+    >>> ROW, BENT = ((4, 4, 4), (((0, 1), (1, 3)), ((1, 1), (2, 3)))), ((4, 4, 4), (((0, 1), (1, 3)), ((1, 0), (2, 2))))
+    >>> [is_form(form(ROW)), is_form(ROW), is_like(ROW, BENT), likening(PAIR, form(PAIR))[0], likening(SQUARE, PAIR)]
+    [True, False, False, 'like', ('sizes', (4,), (4, 4))]
+    >>> [judge_likening(PAIR, form(PAIR), ("like", (0, 1), (3, 1))), judge_likening(PAIR, form(PAIR), ("like", (0, 1), (1, 3)))]
+    [None, ('tie', (0, 1))]
+    >>> [judge_likening(PAIR, PAIR, ("like", (1, 0), (2, 2))), judge_likening(PAIR, PAIR, ("like", (1, 0), (2, 0))), is_mirrorlike(BENT)]
+    [None, ('tie', (0, 1)), True]
+"""
+
+DISCS = """
+    >>> from whatrims.discs import all_discs, counted, grown, is_disc_form, most_turned
+    >>> [all_discs(4, 4, 1), all_discs(4, 4, 2), len(grown(4, 4, [form(PAIR)])), counted(4, 4, 4), counted(6, 3, 3)]
+    [[((4,), ())], [((4, 4), (((0, 0), (1, 0)),))], 2, (7, 5, (6, 1)), (3, 3, (2, 1))]
+    >>> [is_disc_form(4, 4, form(PAIR)), is_disc_form(6, 3, form(PAIR)), is_disc_form(4, 4, None), len(most_turned(4, 4, 4))]
+    [True, False, False, 1]
+"""
+
 
 class Examples(unittest.TestCase):
     def test_errors(self):
@@ -137,6 +187,18 @@ class Examples(unittest.TestCase):
 
     def test_drawn(self):
         run_examples(self, DRAWN)
+
+    def test_laying(self):
+        run_examples(self, LAYING)
+
+    def test_taking(self):
+        run_examples(self, LAYING + TAKING.lstrip("\n"))
+
+    def test_forms(self):
+        run_examples(self, FORMS)
+
+    def test_discs(self):
+        run_examples(self, FORMS + DISCS.lstrip("\n"))
 
 
 if __name__ == "__main__":

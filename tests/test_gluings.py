@@ -2,27 +2,12 @@
 
 import unittest
 
-from tests.helpers import APART, BAND, BLOCK, FAMILY, FOLDED, NAMED, ONE, TORUS, TWO, exactly_equal, gluings_of
+from tests.helpers import (APART, BAND, BLOCK, FAMILY, FOLDED, NAMED, ONE, STRANGE, TORUS, TWO, changes,
+                           exactly_equal, gluings_of)
 from whatrims.gluings import (beside, is_gluing, is_side, mate_of, mirrored, named, next_side, one_tile, part_of,
                               parted, rim_sides, side_before, sides_of, tied)
 
 MIXED = ((4, 3), (((0, 1), (1, 2)),))
-STRANGE = [None, True, False, 0, 1, -1, 4, 10 ** 39, "", "4 3", "ab", (), [], {}, (1,), [1], {"a": 1}, {0: (4,), 1: ()}]
-
-
-def changes(value, into):
-    """Return all copies of a value in which one part, at any depth, is another one, or is gone or doubled."""
-    found = [other for other in into]
-    if isinstance(value, tuple):
-        found.append(list(value))
-        for k, part in enumerate(value):
-            found += [value[:k] + (other,) + value[k + 1:] for other in changes(part, into)]
-            found.append(value[:k] + value[k + 1:])
-            found.append(value[:k] + (part, part) + value[k + 1:])
-        found.append(value[::-1])
-    if value in (0, 1) and not isinstance(value, bool):
-        found.append(bool(value))
-    return found
 
 
 def slow_is_gluing(value):

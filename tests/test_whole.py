@@ -7,11 +7,19 @@ import pathlib
 import unittest
 
 import whatrims
-from tests.helpers import APART, BAND, BLOCK, FOLDED, NAMED, ONE, TWO, exactly_equal
-from whatrims import corners, drawn, errors, gluings, pieces, rims, sums, texts
-from whatrims.errors import BadText
+from tests.helpers import APART, BAND, BLOCK, FOLDED, NAMED, ONE, PIERCED_TORUS, TORUS, TWO, exactly_equal
+from whatrims import (corners, discs, drawn, errors, forms, gluings, laying, pieces, plain, rims, sums, taking, texts)
+from whatrims.errors import BadText, NotLaid
 
 WORD = (1, 2) * 4
+LAYINGS = ((4,), (1, 1, 4), (0, 2, 4))
+FORM_OF_TWO = ((4, 4), (((0, 0), (1, 0)),))
+ROW = ((4, 4, 4), (((0, 1), (1, 3)), ((1, 1), (2, 3))))
+BENT = ((4, 4, 4), (((0, 1), (1, 3)), ((1, 0), (2, 2))))
+
+# The files of the interface, and all files of the package.
+PARTS = (gluings, texts, corners, rims, pieces, sums, drawn, laying, taking, forms, discs)
+FILES = PARTS + (errors, plain)
 
 # Each function of the interface, with what it is passed.
 CALLS = (
@@ -82,6 +90,34 @@ CALLS = (
     (drawn.judge_unlike, [4, 4, ("words", WORD, WORD)], [4, 4, ["words", [1, 2], {"a": []}]], [4, 4, None]),
     (drawn.sized_words, [4, 4, 6]),
     (drawn.sizes_told, [4, 4, 8]),
+    (laying.laid, [TWO, (0, 2), 3, 5]),
+    (laying.laid_word, [WORD, 6, 3, 7]),
+    (laying.may_lay, [4, 4, WORD, 0, 1]),
+    (laying.lays, [4, 3, WORD]),
+    (laying.is_layings, [LAYINGS], [[[4], [0, 1, 4]]], [((4,), [0, 1, {"a": []}])]),
+    (laying.built, [LAYINGS]),
+    (laying.begins, [LAYINGS]),
+    (taking.taken, [BLOCK, 1]),
+    (taking.takers, [BLOCK]),
+    (taking.takings, [BLOCK]),
+    (taking.layings_of, [BLOCK]),
+    (taking.judge_layings, [BLOCK, LAYINGS], [BLOCK, [[4], [0, 1, 4]]], [BLOCK, ((4,), (9, 1, 4))]),
+    (taking.not_disc, [BLOCK], [APART], [BAND], [TORUS], [PIERCED_TORUS], [FOLDED]),
+    (forms.code, [BLOCK, (2, 1)]),
+    (forms.form, [BLOCK]),
+    (forms.is_form, [BLOCK], [[[4], []]]),
+    (forms.starts, [BLOCK]),
+    (forms.is_like, [BLOCK, TWO]),
+    (forms.likening, [BLOCK, BLOCK], [ONE, TWO], [TWO, BAND], [ROW, BENT]),
+    (forms.judge_likening, [ROW, BENT, ("forms", [ROW], {"a": [BENT]})], [TWO, TWO, ("like", [0, 1], [0, 0])],
+     [ROW, BENT, ("rims", 1, 1)], [TWO, TWO, ("like", (0, 1), (1, 0))]),
+    (forms.is_mirrorlike, [BLOCK]),
+    (forms.mirror_form, [BLOCK]),
+    (discs.grown, [4, 4, [FORM_OF_TWO, FORM_OF_TWO]], [4, 4, (FORM_OF_TWO,)]),
+    (discs.all_discs, [4, 4, 4]),
+    (discs.counted, [4, 4, 4]),
+    (discs.is_disc_form, [4, 4, FORM_OF_TWO], [4, 4, [[4], []]]),
+    (discs.most_turned, [4, 4, 4]),
 )
 
 PARAMETERS = """
@@ -100,6 +136,12 @@ over_tiles(gluing, p); corners_gap(gluing, p); rim_sum(q, word); rim_corners_sum
 drawn(p, q, word); turns_of(p, q, word); comes_home(p, q, word); touches(p, q, word); cross_sum(places)
 area_of(p, q, word); size_of(p, q, word); unlike_sizes(p, q); judge_unlike(p, q, value); sized_words(p, q, b)
 sizes_told(p, q, b)
+laid(gluing, side, k, s); laid_word(word, i, k, s); may_lay(p, q, word, i, k); lays(p, q, word); is_layings(value)
+built(layings); begins(layings)
+taken(gluing, t); takers(gluing); takings(gluing); layings_of(gluing); judge_layings(gluing, value); not_disc(gluing)
+code(gluing, side); form(gluing); is_form(value); starts(gluing); is_like(one, other); likening(one, other)
+judge_likening(one, other, value); is_mirrorlike(gluing); mirror_form(gluing)
+grown(p, q, forms); all_discs(p, q, n); counted(p, q, n); is_disc_form(p, q, value); most_turned(p, q, n)
 """
 
 
@@ -143,7 +185,10 @@ class Calls(unittest.TestCase):
                                  (rims.rims, [BAND]), (rims.rim_words, [BAND]), (pieces.pieces, [APART]),
                                  (pieces.twice, [FOLDED]), (pieces.touching, [BLOCK, 0]), (pieces.layers, [BLOCK, 0]),
                                  (drawn.drawn, [4, 4, WORD]), (drawn.touches, [4, 4, (1,) * 8]),
-                                 (drawn.sized_words, [4, 4, 4]), (drawn.sizes_told, [4, 4, 4])):
+                                 (drawn.sized_words, [4, 4, 4]), (drawn.sizes_told, [4, 4, 4]),
+                                 (laying.lays, [4, 4, WORD]), (taking.takers, [BLOCK]), (forms.starts, [BLOCK]),
+                                 (discs.grown, [4, 4, [FORM_OF_TWO]]), (discs.all_discs, [4, 4, 3]),
+                                 (discs.most_turned, [4, 4, 3])):
             told = function(*passed)
             self.assertIs(type(told), list)
             self.assertEqual(lists_in(told), [told])
@@ -164,6 +209,12 @@ class Calls(unittest.TestCase):
                 texts.read_gluing("4 3;7.0")
             places.append(caught.exception.place)
         self.assertEqual(places, [7, 7])
+        numbers = []
+        for call in (laying.built, laying.begins) * 2:
+            with self.assertRaises(NotLaid) as caught:
+                call(((4,), (0, 1, 4), (9, 1, 4)))
+            numbers.append(caught.exception.number)
+        self.assertEqual(numbers, [2] * 4)
 
 
 class Interface(unittest.TestCase):
@@ -177,8 +228,12 @@ class Interface(unittest.TestCase):
         for function, *_ in CALLS:
             self.assertEqual(list(inspect.signature(function).parameters), due[function.__name__])
 
+    def test_all_files_are_looked_at(self):
+        names = [path.stem for path in pathlib.Path(whatrims.__file__).parent.glob("*.py")]
+        self.assertEqual(sorted(names), sorted([part.__name__.partition(".")[2] for part in FILES] + ["__init__"]))
+
     def test_files_define_what_they_list(self):
-        for part in (gluings, texts, corners, rims, pieces, sums, drawn):
+        for part in PARTS:
             listed = [function.__name__ for function, *_ in CALLS if inspect.getmodule(function) is part]
             defined = [row.name for row in ast.parse(inspect.getsource(part)).body if isinstance(row, ast.FunctionDef)]
             self.assertEqual([name for name in listed if name not in defined], [])
@@ -202,7 +257,7 @@ class Sources(unittest.TestCase):
                     self.assertLessEqual(node.end_lineno - node.lineno + 1, 40, (path, node.name))
 
     def test_imports_are_of_the_package_or_of_what_may_be_called(self):
-        for part in (errors, gluings, texts, corners, rims, pieces, sums, drawn):
+        for part in FILES:
             for node in ast.walk(ast.parse(inspect.getsource(part))):
                 self.assertNotIsInstance(node, ast.Import)
                 if isinstance(node, ast.ImportFrom):

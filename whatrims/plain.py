@@ -12,6 +12,20 @@ def is_pair(value):
     return isinstance(value, tuple) and len(value) == 2
 
 
+def is_same(value, due):
+    """Return whether any value is due, which is made of tuples, strings and numbers.
+
+    Python alone would take True for 1, at any depth.
+    """
+    if isinstance(due, tuple):
+        if not isinstance(value, tuple) or len(value) != len(due):
+            return False
+        return all([is_same(part, due_part) for part, due_part in zip(value, due)])
+    if is_number(due):
+        return is_number(value) and value == due
+    return value == due
+
+
 def copied(value):
     """Return value with all lists, tuples and dicts in it made anew, at any depth."""
     if isinstance(value, list):
