@@ -3,6 +3,7 @@
 from whatrims.gluings import beside, one_tile, tied
 from whatrims.pieces import is_of
 from whatrims.rims import rim_of
+from whatrims.rings import ring, ringed
 
 ONE = ((4,), ())
 TWO = ((4, 4), (((0, 1), (1, 3)),))
@@ -73,6 +74,23 @@ def discs_of(p, q, n):
         latest = sorted(set(laid))
         found = found + latest
     return found
+
+
+def rings_laid(p, q, most, least=2):
+    """Return the gluing of as many rings round one tile as have so many tiles, and the list of its tiles' places.
+
+    There are at least so many rings as least tells, however many tiles they have.
+    """
+    gluing, side, places = one_tile(p), (0, 0), [(0, 0)]
+    word = (1,) * p
+    while True:
+        overs, word = ring(p, q, word)
+        if len(places) + len(overs) > most and places[-1][0] >= least:
+            return gluing, places
+        first = [n for n, r in enumerate(overs) if p - 2 - r > 0][0]
+        gluing = ringed(gluing, p, q, side)
+        side = (len(places) + first, overs[first] + 1)
+        places += [(places[-1][0] + 1, j) for j in range(len(overs))]
 
 
 def changes(value, into):

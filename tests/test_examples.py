@@ -161,6 +161,78 @@ DISCS = """
     [True, False, False, 1]
 """
 
+RINGS = """
+    >>> from whatrims.rings import ring, ringed
+    >>> ring(4, 4, (1, 1, 1, 1))
+    ((1, 0, 1, 0, 1, 0, 1, 0), (2, 2, 1, 2, 2, 1, 2, 2, 1, 2, 2, 1))
+    >>> [ring(6, 3, (2, 1, 2, 1, 2, 1))[0], ring(3, 7, (1, 1, 1))[1], len(ring(7, 3, (2, 1, 1, 1) * 7)[0])]
+    [(2, 2, 2), (3, 2, 2, 2, 3, 2, 2, 2, 3, 2, 2, 2), 21]
+    >>> [ring(6, 6, (2, 5, 5)), ring(3, 7, (1, 5, 5))]
+    [((3, 0, 0), (2, 2, 1, 1, 1, 2, 1, 1, 1)), ((1, 1, 1, 0, 0, 0, 0), (5, 2, 2, 2))]
+    >>> ring(4, 4, (1, 3, 3, 1, 1, 1))
+    raises NoRing(place=0)
+    >>> ring(4, 4, (3, 2, 3, 2, 3, 2, 3, 2))
+    raises NoRing(place=8)
+    >>> ring(3, 6, (1, 5, 1, 1))
+    raises NoRing(place=1)
+    >>> from whatrims.gluings import one_tile
+    >>> ringed(one_tile(6), 6, 3, (0, 0))[1][:8]
+    (((0, 0), (1, 0)), ((0, 1), (2, 0)), ((0, 2), (3, 0)), ((0, 3), (4, 0)), ((0, 4), (5, 0)), ((0, 5), (6, 0)), ((1, 1), (6, 5)), ((1, 5), (2, 1)))
+"""
+
+RINGCOUNTS = """
+    >>> from whatrims.ringcounts import makes, ring_counts, ring_kinds, ring_of_tile, ring_rests, ring_size, within
+    >>> [ring_kinds(4, 4, 1), ring_kinds(6, 3, 2), ring_kinds(3, 6, 1), ring_kinds(3, 6, 2)[:9]]
+    ['SCSCSCSC', 'BABABABABABA', 'SCCDSCCDSCCD', 'SCDSCDSDS']
+    >>> [makes(6, 4), makes(7, 3), makes(3, 7)]
+    [{'S': 'SCSCS', 'C': 'SCSCSCS'}, {'A': 'BAA', 'B': 'BA'}, {'S': '', 'C': 'SCCD', 'D': 'SCD'}]
+    >>> [ring_counts(7, 3, 2), [ring_size(7, 3, n) for n in range(5)], within(4, 4, 10 ** 30) == (2 * 10 ** 30 + 1) ** 2]
+    [{'A': 14, 'B': 7}, [1, 7, 21, 56, 147], True]
+    >>> [ring_of_tile(4, 4, 8), ring_of_tile(4, 4, 9), ring_of_tile(7, 3, 28), ring_rests(6, 3, 10 ** 30, 7)]
+    [(1, 7), (2, 0), (2, 20), {'A': 6, 'B': 0}]
+    >>> ring_size(4, 5, 401)
+    raises TooMany()
+"""
+
+PLACES = """
+    >>> from whatrims.places import elders, first_made, inside_outside, is_place, kind_of_place, made, maker, path_of, place_of_path
+    >>> [inside_outside(4, 5, "S"), inside_outside(4, 5, "C"), inside_outside(6, 3, "B"), inside_outside(3, 6, "S"), inside_outside(6, 3, "O")]
+    [(1, 1), (0, 2), (2, 2), (1, 0), (0, 6)]
+    >>> [is_place(4, 4, (2, 15)), is_place(4, 4, (2, 16)), is_place(4, 4, (0, False)), is_place(4, 4, [1, 0])]
+    [True, False, False, False]
+    >>> [kind_of_place(4, 5, (1, 1)), kind_of_place(7, 3, (2, 0)), kind_of_place(3, 7, (1, 4)), kind_of_place(4, 4, (0, 0))]
+    ['C', 'B', 'D', 'O']
+    >>> [path_of(4, 4, (2, 3)), place_of_path(4, 4, (1, 2)), path_of(4, 4, (0, 0)), path_of(3, 6, (2, 7))]
+    [(1, 2), (2, 3), (), (3, 1)]
+    >>> [maker(4, 4, (2, 3)), made(4, 4, (1, 1)), first_made(4, 4, (1, 2)), made(3, 6, (1, 0)), first_made(3, 6, (1, 4))]
+    [((1, 1), 2), [(2, 1), (2, 2), (2, 3)], 4, [], 8]
+    >>> [elders(4, 4, (1, 1)), elders(4, 4, (2, 0)), elders(6, 3, (2, 0)), elders(3, 6, (2, 7)), elders(4, 5, (2, 1))]
+    [((0, 0),), ((1, 0),), ((1, 5), (1, 0)), ((1, 3), (1, 4), (1, 5)), ((1, 0), (1, 1))]
+"""
+
+OVER = """
+    >>> from whatrims.over import judge_walk, least_sides, least_walk, near, neighbours, over, patch
+    >>> from whatrims.over import round_corner, side_words, straight, walked, within_ring
+    >>> [over(4, 4, (0, 0), 1), over(4, 4, (1, 2), 0), over(4, 4, (1, 0), 1), over(4, 4, (1, 1), 2), over(6, 3, (2, 0), 1), over(6, 3, (1, 5), 4)]
+    [((1, 2), 0), ((0, 0), 1), ((1, 7), 3), ((2, 3), 0), ((1, 5), 4), ((2, 0), 1)]
+    >>> [over(3, 6, (1, 1), 1), over(3, 6, (2, 0), 0), side_words(4, 4, (1, 0)), side_words(3, 6, (1, 1)), neighbours(4, 4, (1, 0))]
+    [((2, 0), 0), ((1, 1), 1), ('in', 'ahead', 'out', 'next'), ('ahead', 'out', 'next'), [(0, 0), (1, 7), (2, 0), (1, 1)]]
+    >>> round_corner(4, 4, (0, 0), 0)
+    [((0, 0), 0), ((1, 0), 1), ((1, 7), 0), ((1, 6), 0)]
+    >>> [walked(4, 4, (0, 0), [0, 2, 2]), straight(4, 4, (0, 0), 0, 3), straight(4, 4, (2, 0), 0, 3)]
+    [[(0, 0), (1, 0), (2, 0), (3, 0)], ((3, 0), 2), ((1, 4), 2)]
+    >>> [near(4, 4, (0, 0), 1), near(4, 4, (1, 1), 0), least_sides(4, 4, (0, 0), (1, 1)), least_sides(4, 4, (2, 0), (1, 4))]
+    [[(0, 0), (1, 0), (1, 2), (1, 4), (1, 6)], [(1, 1)], 2, 3]
+    >>> [least_walk(4, 4, (0, 0), (2, 0)), judge_walk(4, 4, (0, 0), (2, 0), [0, 2]), judge_walk(4, 4, (0, 0), (2, 0), [0])]
+    [[0, 2], None, ('ends', (1, 0))]
+    >>> [judge_walk(4, 4, (0, 0), (0, 0), (0, 0)), judge_walk(4, 4, (0, 0), (0, 0), [4])]
+    [('longer', 2), ('form',)]
+    >>> [patch(4, 4, [(0, 0), (1, 0)]), within_ring(6, 3, 0), patch(4, 4, [(1, 1), (1, 0)])]
+    [((4, 4), (((0, 0), (1, 0)),)), ((6,), ()), ((4, 4), (((0, 0), (1, 3)),))]
+    >>> [len(within_ring(7, 3, 2)[0]), len(within_ring(4, 4, 1)[1])]
+    [29, 12]
+"""
+
 
 class Examples(unittest.TestCase):
     def test_errors(self):
@@ -199,6 +271,18 @@ class Examples(unittest.TestCase):
 
     def test_discs(self):
         run_examples(self, FORMS + DISCS.lstrip("\n"))
+
+    def test_rings(self):
+        run_examples(self, RINGS)
+
+    def test_ringcounts(self):
+        run_examples(self, RINGCOUNTS)
+
+    def test_places(self):
+        run_examples(self, PLACES)
+
+    def test_over(self):
+        run_examples(self, OVER)
 
 
 if __name__ == "__main__":

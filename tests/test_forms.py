@@ -8,7 +8,6 @@ from tests.helpers import (APART, BALL, BAND, BLOCK, FAMILY, FOLDED, NAMED, ONE,
 from whatrims.forms import (code, form, is_form, is_like, is_mirrorlike, judge_likening, likening, mirror_form, starts)
 from whatrims.gluings import beside, is_gluing, mate_of, mirrored, named, sides_of
 from whatrims.pieces import pieces
-from whatrims.rims import rims
 
 PIECES = [gluing for gluing in FAMILY if len(pieces(gluing)) == 1]
 DISCS = discs_of(4, 4, 4)[::3] + discs_of(3, 7, 4)[::2]

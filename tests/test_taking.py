@@ -2,7 +2,7 @@
 
 import unittest
 
-from tests.helpers import (APART, BALL, BAND, BLOCK, FAMILY, FOLDED, FOLDED_BALL, NAMED, ONE, PIERCED_TORUS, STRANGE,
+from tests.helpers import (APART, BALL, BAND, BLOCK, FAMILY, FOLDED, FOLDED_BALL, ONE, PIERCED_TORUS, STRANGE,
                            TORUS, TUBE, TWO, changes, discs_of, exactly_equal)
 from whatrims.corners import corner_of, is_inner
 from whatrims.errors import NotLaid

@@ -8,7 +8,8 @@ import unittest
 
 import whatrims
 from tests.helpers import APART, BAND, BLOCK, FOLDED, NAMED, ONE, PIERCED_TORUS, TORUS, TWO, exactly_equal
-from whatrims import (corners, discs, drawn, errors, forms, gluings, laying, pieces, plain, rims, sums, taking, texts)
+from whatrims import (corners, discs, drawn, errors, floors, forms, gluings, laying, over, pieces, places, plain, rims,
+                      ringcounts, rings, sums, taking, texts)
 from whatrims.errors import BadText, NotLaid
 
 WORD = (1, 2) * 4
@@ -18,8 +19,12 @@ ROW = ((4, 4, 4), (((0, 1), (1, 3)), ((1, 1), (2, 3))))
 BENT = ((4, 4, 4), (((0, 1), (1, 3)), ((1, 0), (2, 2))))
 
 # The files of the interface, and all files of the package.
-PARTS = (gluings, texts, corners, rims, pieces, sums, drawn, laying, taking, forms, discs)
-FILES = PARTS + (errors, plain)
+PARTS = (gluings, texts, corners, rims, pieces, sums, drawn, laying, taking, forms, discs, rings, ringcounts, places,
+         over)
+FILES = PARTS + (errors, floors, plain)
+
+# What may be imported from outside the package.
+MATH = (("math", ["gcd"]), ("math", ["isqrt"]))
 
 # Each function of the interface, with what it is passed.
 CALLS = (
@@ -118,6 +123,36 @@ CALLS = (
     (discs.counted, [4, 4, 4]),
     (discs.is_disc_form, [4, 4, FORM_OF_TWO], [4, 4, [[4], []]]),
     (discs.most_turned, [4, 4, 4]),
+    (rings.ring, [4, 4, (1, 2, 1, 1, 2, 1)]),
+    (rings.ringed, [TWO, 4, 4, (1, 1)]),
+    (ringcounts.ring_kinds, [7, 3, 2]),
+    (ringcounts.makes, [7, 3], [3, 7], [4, 5]),
+    (ringcounts.ring_counts, [7, 3, 5], [7, 3, 0]),
+    (ringcounts.ring_size, [7, 3, 5]),
+    (ringcounts.within, [7, 3, 5]),
+    (ringcounts.ring_rests, [7, 3, 10 ** 30, 7]),
+    (ringcounts.ring_of_tile, [7, 3, 100]),
+    (places.inside_outside, [7, 3, "B"]),
+    (places.is_place, [7, 3, (2, 3)], [7, 3, [2, [3]]], [7, 3, {"a": [1]}]),
+    (places.kind_of_place, [7, 3, (2, 3)]),
+    (places.path_of, [7, 3, (2, 3)]),
+    (places.place_of_path, [7, 3, (1, 0)]),
+    (places.maker, [7, 3, (2, 3)]),
+    (places.made, [7, 3, (2, 3)]),
+    (places.first_made, [7, 3, (2, 3)]),
+    (places.elders, [7, 3, (2, 3)]),
+    (over.over, [7, 3, (2, 3), 1]),
+    (over.side_words, [7, 3, (2, 3)]),
+    (over.neighbours, [7, 3, (2, 3)]),
+    (over.round_corner, [7, 3, (2, 3), 1]),
+    (over.walked, [4, 4, (0, 0), [0, 2, 2]], [4, 4, (0, 0), (0, 2, 2)]),
+    (over.straight, [4, 4, (2, 3), 1, 9]),
+    (over.near, [7, 3, (2, 3), 2]),
+    (over.least_sides, [7, 3, (2, 3), (1, 5)]),
+    (over.least_walk, [7, 3, (2, 3), (1, 5)]),
+    (over.judge_walk, [4, 4, (0, 0), (2, 0), [0, 2]], [4, 4, (0, 0), (2, 0), (0, 1)], [4, 4, (0, 0), (2, 0), [[0], {}]]),
+    (over.patch, [4, 4, [(1, 1), (1, 0)]], [4, 4, ((1, 1), (1, 0))]),
+    (over.within_ring, [7, 3, 1]),
 )
 
 PARAMETERS = """
@@ -142,6 +177,14 @@ taken(gluing, t); takers(gluing); takings(gluing); layings_of(gluing); judge_lay
 code(gluing, side); form(gluing); is_form(value); starts(gluing); is_like(one, other); likening(one, other)
 judge_likening(one, other, value); is_mirrorlike(gluing); mirror_form(gluing)
 grown(p, q, forms); all_discs(p, q, n); counted(p, q, n); is_disc_form(p, q, value); most_turned(p, q, n)
+ring(p, q, word), ringed(gluing, p, q, side)
+ring_kinds(p, q, n), makes(p, q); ring_counts(p, q, n), ring_size(p, q, n), within(p, q, n), ring_rests(p, q, n, m)
+ring_of_tile(p, q, k)
+inside_outside(p, q, kind); is_place(p, q, value); kind_of_place(p, q, place); path_of(p, q, place)
+place_of_path(p, q, path); maker(p, q, place); made(p, q, place); first_made(p, q, place); elders(p, q, place)
+over(p, q, place, i); side_words(p, q, place); neighbours(p, q, place); round_corner(p, q, place, i)
+walked(p, q, place, sides); straight(p, q, place, i, n); near(p, q, place, n); least_sides(p, q, one, other)
+least_walk(p, q, one, other); judge_walk(p, q, one, other, value); patch(p, q, places); within_ring(p, q, n)
 """
 
 
@@ -188,7 +231,10 @@ class Calls(unittest.TestCase):
                                  (drawn.sized_words, [4, 4, 4]), (drawn.sizes_told, [4, 4, 4]),
                                  (laying.lays, [4, 4, WORD]), (taking.takers, [BLOCK]), (forms.starts, [BLOCK]),
                                  (discs.grown, [4, 4, [FORM_OF_TWO]]), (discs.all_discs, [4, 4, 3]),
-                                 (discs.most_turned, [4, 4, 3])):
+                                 (discs.most_turned, [4, 4, 3]), (places.made, [4, 4, (1, 1)]),
+                                 (over.neighbours, [4, 4, (1, 1)]), (over.round_corner, [4, 4, (1, 1), 0]),
+                                 (over.walked, [4, 4, (1, 1), (0, 1)]), (over.near, [4, 4, (1, 1), 1]),
+                                 (over.least_walk, [4, 4, (1, 1), (2, 5)])):
             told = function(*passed)
             self.assertIs(type(told), list)
             self.assertEqual(lists_in(told), [told])
@@ -262,7 +308,7 @@ class Sources(unittest.TestCase):
                 self.assertNotIsInstance(node, ast.Import)
                 if isinstance(node, ast.ImportFrom):
                     names = [alias.name for alias in node.names]
-                    self.assertTrue(node.module.startswith("whatrims.") or (node.module, names) == ("math", ["gcd"]))
+                    self.assertTrue(node.module.startswith("whatrims.") or (node.module, names) in MATH)
 
 
 if __name__ == "__main__":
