@@ -107,18 +107,19 @@ class AllDiscs(unittest.TestCase):
             self.assertTrue(exactly_equal(counted(p, 5, 1), (1, 1, (1,))))
 
     def test_too_many(self):
-        for p, q, n in ((5, 5, 7), (6, 4, 7), (7, 3, 7), (7, 7, 7), (7, 7, 9), (6, 3, 30)):
-            for call in (all_discs, counted, most_turned):
+        for p, q, n, calls in ((7, 3, 7, (all_discs, counted, most_turned)), (5, 5, 7, (all_discs,)),
+                               (6, 4, 7, (counted,)), (7, 7, 7, (most_turned,)), (5, 7, 9, (all_discs,))):
+            for call in calls:
                 with self.assertRaises(TooMany):
                     call(p, q, n)
-        for p, q, n, due in ((7, 7, 6, 1989), (7, 5, 6, 1968), (5, 4, 7, 1447)):
+        for p, q, n, due in ((7, 7, 6, 1989), (5, 4, 7, 1447)):
             self.assertEqual(len(all_discs(p, q, n)), due)
 
 
 class Counted(unittest.TestCase):
     def test_form_by_form(self):
         for p, q in KINDS:
-            for n in (2, 4, 5):
+            for n in (2, 4):
                 forms = all_discs(p, q, n)
                 inner = [sum(is_inner(disc, corner) for corner in corners(disc)) for disc in forms]
                 told = counted(p, q, n)

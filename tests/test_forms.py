@@ -7,6 +7,7 @@ from tests.helpers import (APART, BALL, BAND, BLOCK, FAMILY, FOLDED, NAMED, ONE,
                            changes, discs_of, exactly_equal, gluings_of)
 from whatrims.forms import (code, form, is_form, is_like, is_mirrorlike, judge_likening, likening, mirror_form, starts)
 from whatrims.gluings import beside, is_gluing, mate_of, mirrored, named, sides_of
+from whatrims.laying import built
 from whatrims.pieces import pieces
 
 PIECES = [gluing for gluing in FAMILY if len(pieces(gluing)) == 1]
@@ -92,6 +93,19 @@ class Forms(unittest.TestCase):
                     codes = [slow_code(gluing, side) for side in sides_of(gluing)]
                     self.assertEqual(form(gluing), min(codes))
                     self.assertEqual(len(starts(gluing)), codes.count(min(codes)))
+
+    def test_sizes_that_part_late(self):
+        # Discs of six tiles of three and four sides, laid in many ways: their codes part at each of their tiles.
+        parted = set()
+        for n in range(120):
+            layings = ((3 + n % 2,),) + tuple(((n * k + n // 7) % 3, 1, 3 + (n >> k) % 2) for k in range(1, 6))
+            gluing = built(layings)
+            codes = sorted({slow_code(gluing, side) for side in sides_of(gluing)})
+            self.assertEqual(form(gluing), codes[0])
+            self.assertEqual(starts(gluing), [side for side in sides_of(gluing) if slow_code(gluing, side) == codes[0]])
+            for one, other in zip(codes, codes[1:]):
+                parted.add([k for k in range(7) if one[0][:k] == other[0][:k]][-1])
+        self.assertTrue(parted >= {0, 1, 2, 3, 4, 6})
 
     def test_starts_of_known_ones(self):
         for gluing, due in ((ONE, [(0, 0), (0, 1), (0, 2), (0, 3)]), (TWO, [(0, 1), (1, 3)]), (MIXED, [(1, 1)]),
@@ -205,6 +219,7 @@ class JudgeLikening(unittest.TestCase):
                 (ONE, TWO, ("sizes", (4,), [4, 4]), ("told", sizes)), (ONE, TWO, ("sizes", None, {}), ("told", sizes)),
                 (TWO, BAND, ("rims", (2, 2), (6,)), ("told", told)), (TWO, BAND, ("rims", (6,), (2, 2, 2)), ("told", told)),
                 (ROW, BENT, ("forms", form(BENT), form(ROW)), ("told", forms)), (ROW, BENT, ("forms", ROW, BENT), ("told", forms)),
+                (ONE, TWO, ("like", (0, 1), (0,)), ("form",)), (TWO, ONE, ("like", (0,), (0, 0)), ("form",)),
                 (ONE, TWO, ("like", (0,), (0,)), ("form",)), (TWO, ONE, ("like", (0, 0), (0, 0)), ("form",)),
                 (TWO, TWO, ("like", (0, 1), (0, 4)), ("form",)), (TWO, TWO, ("like", (0, 1), (-1, 0)), ("form",)),
                 (TWO, TWO, ("like", (0, 1)), ("form",)), (TWO, TWO, ("like", (0, 1), (0, 0), ()), ("form",)),

@@ -22,8 +22,9 @@ def _naming(gluing, side):
     tied_sides = mates(gluing)
     tiles = [side[0]]
     firsts = {side[0]: side[1]}
-    for _, (number, _), (t, i) in _tied_in_turn(sizes, tied_sides, side):
-        if number == len(tiles):
+    for _, other, (t, i) in _tied_in_turn(sizes, tied_sides, side):
+        # A tile gets its number when its first tied side is met: that is its side 0.
+        if other[0] == len(tiles):
             tiles.append(t)
             firsts[t] = i
     return tiles, firsts
@@ -63,38 +64,32 @@ def starts(gluing):
 
 
 def _form_and_starts(gluing):
-    tied_sides = mates(gluing)
-    least_sizes, sides = _of_least_sizes(gluing, tied_sides)
-    least_ties = None
-    found = []
-    for side in sides:
-        ties = _ties_up_to(gluing[0], tied_sides, side, least_ties)
-        if ties is None:
-            continue
-        if ties != least_ties:
-            least_ties = ties
-            found = []
-        found.append(side)
-    return (least_sizes, tuple(least_ties)), found
-
-
-def _of_least_sizes(gluing, tied_sides):
-    """Return the least tuple of sizes that a code has, and the list of the sides whose codes have it."""
     sizes = gluing[0]
+    tied_sides = mates(gluing)
     sides = sides_of(gluing)
-    if min(sizes) == max(sizes):
-        return sizes, sides
+    least_sizes = sizes
+    if min(sizes) != max(sizes):
+        least_sizes, sides = _least_told(sides, lambda side, bound: _sizes_up_to(sizes, tied_sides, side, bound))
+    least_ties, found = _least_told(sides, lambda side, bound: _ties_up_to(sizes, tied_sides, side, bound))
+    return (tuple(least_sizes), tuple(least_ties)), found
+
+
+def _least_told(sides, told_up_to):
+    """Return the least of what is told of the sides, and the list of those of which it is told.
+
+    told_up_to(side, bound) returns None for what is above bound, which is
+    None itself at first.
+    """
     least = None
     found = []
     for side in sides:
-        told = _sizes_up_to(sizes, tied_sides, side, least)
-        if told is None:
-            continue
-        if told != least:
-            least = told
-            found = []
-        found.append(side)
-    return tuple(least), found
+        told = told_up_to(side, least)
+        if told is not None:
+            if told != least:
+                least = told
+                found = []
+            found.append(side)
+    return least, found
 
 
 def _sizes_up_to(sizes, tied_sides, side, bound):
@@ -105,14 +100,15 @@ def _sizes_up_to(sizes, tied_sides, side, bound):
         if told[0] > bound[0]:
             return None
         even = False
-    for _, (number, _), (t, _) in _tied_in_turn(sizes, tied_sides, side):
-        if number == len(told):
+    for _, other, mate in _tied_in_turn(sizes, tied_sides, side):
+        if other[0] == len(told):
             # The first size that is another one decides.
-            if even and sizes[t] != bound[number]:
-                if sizes[t] > bound[number]:
+            size = sizes[mate[0]]
+            if even and size != bound[len(told)]:
+                if size > bound[len(told)]:
                     return None
                 even = False
-            told.append(sizes[t])
+            told.append(size)
     return told
 
 

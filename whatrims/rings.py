@@ -38,7 +38,7 @@ def _ring_tiles(p, q, word):
     missing = [q - letter for letter in word]
     if p == 3 and 1 in missing:
         raise NoRing(missing.index(1))
-    tiles = _tiles_in_order(p, missing)
+    tiles = _tiles_in_order(missing)
     faults = _fault_places(p, q, tiles)
     if faults:
         raise NoRing(min(faults))
@@ -47,28 +47,24 @@ def _ring_tiles(p, q, word):
     return tiles
 
 
-def _tiles_in_order(p, missing):
-    """Return the list of the ring's tiles in their order, [] if runs end at no corner."""
+def _tiles_in_order(missing):
+    """Return the list of the ring's tiles in their order, [] if sides with a tile in common go all round.
+
+    With p = 3 no corner has one missing, so each side has a tile of its own
+    there, and those of a run are what is called a row below.
+    """
     many = len(missing)
-    # At such a corner the sides are of one run.
-    joined = 2 if p == 3 else 1
-    ends = [i for i, number in enumerate(missing) if number > joined]
+    ends = [i for i, number in enumerate(missing) if number > 1]
     if not ends:
         return []
-    # The run that has side 0 comes first, also if it goes over the end of the word.
+    # The tile over side 0 comes first, also if its sides go over the end of the word.
     begins = ends if ends[0] == 0 else ends[-1:] + ends[:-1]
     tiles = []
     for k, begin in enumerate(begins):
         end = begins[(k + 1) % len(begins)]
-        r = (end - begin - 1) % many + 1
-        if p == 3:
-            tiles += [((begin + j) % many, 1) for j in range(r)]
-        else:
-            tiles.append((begin, r))
+        tiles.append((begin, (end - begin - 1) % many + 1))
         tiles += [(end, 0)] * (missing[end] - 2)
-    # With p = 3 each side has a tile, and the one over side 0 is the first one.
-    ahead = (many - begins[0]) % many if p == 3 else 0
-    return tiles[ahead:] + tiles[:ahead]
+    return tiles
 
 
 def _sides_out(p, tile):
@@ -100,8 +96,7 @@ def _fault_places(p, q, tiles):
     for n, length in enumerate(_rows_ahead(p, tiles)):
         if _sides_out(p, tiles[n]) < 0:
             found.append(tiles[n][0])
-        if length is not None and length > 0 and length + 2 >= q:
-            # With p = 3 a row is what lies over one run, so its tile lies over the run's first side.
+        if length is not None and length + 2 >= q:
             found.append(tiles[(n - length) % len(tiles)][0])
     return found
 
