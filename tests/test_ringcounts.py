@@ -2,8 +2,9 @@
 
 import unittest
 
-from tests.helpers import exactly_equal
+from tests.helpers import exactly_equal, rings_laid
 from whatrims.errors import TooMany
+from whatrims.pieces import over_sides
 from whatrims.ringcounts import (makes, ring_counts, ring_kinds, ring_of_tile, ring_rests, ring_size, within)
 from whatrims.rings import ring
 
@@ -63,6 +64,21 @@ class RingKinds(unittest.TestCase):
             for n in (len(found), len(found) + 1, FAR):
                 with self.assertRaises(TooMany):
                     ring_kinds(p, q, n)
+
+    def test_as_ringed_makes_them(self):
+        for p, q in ((4, 4), (4, 6), (5, 5), (6, 4), (6, 3), (7, 3), (9, 3), (3, 6), (3, 7), (3, 10)):
+            gluing, places = rings_laid(p, q, 400)
+            for k in range(1, places[-1][0] + 1):
+                tiles = [t for t, place in enumerate(places) if place[0] == k]
+                inside = [sum(places[u][0] < k for u in over_sides(gluing, t) if u is not None) for t in tiles]
+                kinds = ring_kinds(p, q, k)
+                self.assertEqual(len(kinds), len(tiles))
+                for n, kind in enumerate(kinds):
+                    self.assertEqual(inside[n], {"S": 1, "C": 0, "D": 0, "A": 1, "B": 2}[kind])
+                    if p == 3 and kind != "S":
+                        self.assertEqual(kind == "D", inside[(n + 1) % len(inside)] == 1)
+                if p > 3 and q > 3:
+                    self.assertEqual(set(kinds), {"S", "C"})
 
     def test_known_ones(self):
         self.assertEqual(ring_kinds(5, 4, 1), "SC" * 5)
