@@ -93,6 +93,41 @@ def rings_laid(p, q, most, least=2):
         places += [(places[-1][0] + 1, j) for j in range(len(overs))]
 
 
+def rising(word, many, least=2):
+    """Return all tuples of so many entries of ways, each () or (i, a), i rising from least on, in Python's order."""
+    if many == 0:
+        return [()]
+    found = [((), *rest) for rest in rising(word, many - 1, least)]
+    for i in range(least, len(word)):
+        for a in range(word[i]):
+            found += [((i, a), *rest) for rest in rising(word, many - 1, i + 1)]
+    return found
+
+
+def rests_read(q, word, way, pairs):
+    """Return the list of the words of a way's rests, None if it is no way, by the words of the document.
+
+    If pairs is true, two letters can be a rest.
+    """
+    s, b = len(way) + 2, len(word)
+    # Each met corner: its number in the tile, its number on the rim, the tiles ahead and those behind.
+    met = [(1, 1, 0, word[1] - 1)]
+    for k, entry in enumerate(way):
+        if entry != ():
+            met.append((k + 2, entry[0], entry[1], word[entry[0]] - 1 - entry[1]))
+    met.append((s, b, word[0] - 1, 0))
+    found = []
+    for (c, i, _, behind), (d, j, ahead, _) in zip(met, met[1:]):
+        if d - c == 1 and j == i + 1 and (not pairs or behind == 0 or ahead == 0):
+            if behind != 0 or ahead != 0:
+                return None
+        elif behind == 0 or ahead == 0:
+            return None
+        else:
+            found.append((behind,) + word[i + 1:j] + (ahead,) + (q - 1,) * (d - c - 1))
+    return found
+
+
 def changes(value, into):
     """Return all copies of a value in which one part, at any depth, is another one, or is gone or doubled."""
     found = [other for other in into]

@@ -233,6 +233,55 @@ OVER = """
     [29, 12]
 """
 
+WAYS = """
+    >>> from whatrims.ways import is_word, mirror_word, parts_of, rests, way_of, ways
+    >>> ONE, TWO, STAR = (1, 1, 1, 1), (1, 1, 2, 1, 1, 2), (1, 2) * 5
+    >>> [is_word(4, 4, TWO), is_word(4, 4, (1, 4, 1)), is_word(4, 4, (1, 1)), is_word(4, 4, [1, 1, 1]), is_word(4, 4, (True, 1, 1))]
+    [True, False, False, False, False]
+    >>> [mirror_word((1, 2, 3, 4)), mirror_word((1, 2, 3))]
+    [(2, 1, 4, 3), (2, 1, 3)]
+    >>> [ways(4, 4, ONE), ways(4, 4, TWO), ways(4, 5, STAR), ways(4, 4, (1, 1, 1))]
+    [[((2, 0), (3, 0))], [((2, 0), (5, 1))], [((), (9, 1))], []]
+    >>> [rests(4, 4, ONE, ((2, 0), (3, 0))), rests(4, 4, TWO, ((2, 0), (5, 1))), rests(4, 5, STAR, ((), (9, 1)))]
+    [[], [(1, 1, 1, 1)], [(1, 1, 2, 1, 2, 1, 2, 1, 1, 4)]]
+    >>> DOMINO = ((4, 4), (((0, 1), (1, 3)),))
+    >>> [way_of(4, 4, DOMINO, (0, 3)), parts_of(4, 4, DOMINO, (0, 3))]
+    [((2, 0), (5, 1)), [(((4,), ()), (0, 0))]]
+"""
+
+FILLING = """
+    >>> from whatrims.filling import all_fills, fill, filled_words, fills, judge_fill, put_first
+    >>> [fill(4, 4, TWO)[0], fill(7, 3, (1,) * 12)[0], fills(4, 4, TWO), fills(4, 5, STAR), fills(7, 3, (1,) * 12)]
+    ['disc', 'barred', 1, 1, 0]
+    >>> [judge_fill(4, 4, TWO, ("disc", DOMINO, (0, 3))), judge_fill(4, 4, TWO, ("disc", DOMINO, (0, 0))), judge_fill(4, 4, TWO, ("disc", DOMINO, (0, 1)))]
+    [None, ('word', (1, 2, 1, 1, 2, 1)), ('rim',)]
+    >>> [judge_fill(4, 4, TWO, ("barred", (TWO,))), judge_fill(4, 4, ONE, ("barred", (TWO,))), judge_fill(4, 4, (1, 1, 1), ("barred", ((1, 1, 1),)))]
+    [('open', (1, 1, 2, 1, 1, 2), ((2, 0), (5, 1))), ('lacks',), None]
+    >>> put_first(4, 4, TWO, ((2, 0), (5, 1)), [(((4,), ()), (0, 0))]) == all_fills(4, 4, TWO)[0]
+    True
+    >>> [filled_words(4, 4, 4), filled_words(4, 4, 6), filled_words(6, 3, 6)]
+    [[(1, 1, 1, 1)], [(1, 1, 2, 1, 1, 2)], [(1, 1, 1, 1, 1, 1)]]
+"""
+
+COILS = """
+    >>> from whatrims.coils import coil, coil_rim
+    >>> [coil(4, 4, 1), coil_rim(4, 4, 4), coil_rim(4, 4, 9), coil_rim(6, 3, 7), coil_rim(4, 5, 13), coil_rim(3, 7, 1)]
+    [((4,), ()), (8, 12, 1), (12, 20, 4), (18, 24, 6), (20, 32, 4), (3, 3, 0)]
+"""
+
+ODD = """
+    >>> from whatrims.odd import due_counts, fill_with, judge_fill_with
+    >>> [due_counts(3, (5, 6), (1, 2) * 5, 6), due_counts(3, (5, 6), (1, 1, 1, 1), 3), due_counts(3, (5, 6), (1, 2, 1), 3)]
+    [[(6, 0)], [(2, 0), (2, 1)], []]
+    >>> PENTAGON = ((5,), ())
+    >>> [fill_with(3, (5, 6), (1, 1, 1, 1, 1), 1)[:2], fill_with(3, (5, 6), (1, 1, 1, 1), 3)[0]]
+    [('disc', ((5,), ())), 'barred']
+    >>> [judge_fill_with(3, (5, 6), (1, 1, 1, 1, 1), 2, ("disc", PENTAGON, (0, 3))), judge_fill_with(3, (6,), (1,) * 5, 2, ("disc", PENTAGON, (0, 3)))]
+    [None, ('size', 0)]
+    >>> [judge_fill_with(3, (5, 6), (1, 1, 1, 1), 3, ("barred", (((1, 1, 1, 1), 3),))), judge_fill_with(3, (5, 6), (1, 1, 1, 1, 1), 2, ("barred", (((1, 1, 1, 1, 1), 2),)))]
+    [None, ('open', ((1, 1, 1, 1, 1), 2))]
+"""
+
 
 class Examples(unittest.TestCase):
     def test_errors(self):
@@ -283,6 +332,18 @@ class Examples(unittest.TestCase):
 
     def test_over(self):
         run_examples(self, OVER)
+
+    def test_ways(self):
+        run_examples(self, WAYS)
+
+    def test_filling(self):
+        run_examples(self, WAYS + FILLING.lstrip("\n"))
+
+    def test_coils(self):
+        run_examples(self, COILS)
+
+    def test_odd(self):
+        run_examples(self, ODD)
 
 
 if __name__ == "__main__":

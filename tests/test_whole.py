@@ -8,11 +8,12 @@ import unittest
 
 import whatrims
 from tests.helpers import APART, BAND, BLOCK, FOLDED, NAMED, ONE, PIERCED_TORUS, TORUS, TWO, exactly_equal
-from whatrims import (corners, discs, drawn, errors, floors, forms, gluings, laying, over, pieces, places, plain, rims,
-                      ringcounts, rings, sums, taking, texts)
+from whatrims import (coils, corners, discs, drawn, errors, filling, firsts, floors, forms, gluings, laying, odd, over,
+                      pieces, places, plain, rims, ringcounts, rings, sums, taking, texts, ways)
 from whatrims.errors import BadText, NotLaid
 
 WORD = (1, 2) * 4
+RIM_OF_TWO = (1, 1, 2, 1, 1, 2)
 LAYINGS = ((4,), (1, 1, 4), (0, 2, 4))
 FORM_OF_TWO = ((4, 4), (((0, 0), (1, 0)),))
 ROW = ((4, 4, 4), (((0, 1), (1, 3)), ((1, 1), (2, 3))))
@@ -20,8 +21,8 @@ BENT = ((4, 4, 4), (((0, 1), (1, 3)), ((1, 0), (2, 2))))
 
 # The files of the interface, and all files of the package.
 PARTS = (gluings, texts, corners, rims, pieces, sums, drawn, laying, taking, forms, discs, rings, ringcounts, places,
-         over)
-FILES = PARTS + (errors, floors, plain)
+         over, ways, filling, coils, odd)
+FILES = PARTS + (errors, firsts, floors, plain)
 
 # What may be imported from outside the package.
 MATH = (("math", ["gcd"]), ("math", ["isqrt"]))
@@ -153,6 +154,26 @@ CALLS = (
     (over.judge_walk, [4, 4, (0, 0), (2, 0), [0, 2]], [4, 4, (0, 0), (2, 0), (0, 1)], [4, 4, (0, 0), (2, 0), [[0], {}]]),
     (over.patch, [4, 4, [(1, 1), (1, 0)]], [4, 4, ((1, 1), (1, 0))]),
     (over.within_ring, [7, 3, 1]),
+    (ways.is_word, [4, 4, WORD], [4, 4, [[1], {"a": [1]}]]),
+    (ways.mirror_word, [WORD]),
+    (ways.ways, [4, 4, WORD], [4, 4, (1, 1, 1)]),
+    (ways.rests, [4, 4, WORD, ((), (7, 1))]),
+    (ways.way_of, [4, 4, TWO, (0, 3)]),
+    (ways.parts_of, [4, 4, TWO, (0, 3)]),
+    (filling.fill, [4, 4, WORD], [7, 3, (1,) * 12]),
+    (filling.judge_fill, [4, 4, WORD, ("disc", TWO, (0, 0))], [4, 4, WORD, ("barred", [[1, 1, 1], {"a": []}])],
+     [4, 4, WORD, ("barred", (WORD,))], [4, 4, WORD, ["disc", [[4], []], [0, 0]]]),
+    (filling.fills, [4, 4, WORD]),
+    (filling.all_fills, [4, 4, WORD]),
+    (filling.put_first, [4, 4, RIM_OF_TWO, ((2, 0), (5, 1)), [(ONE, (0, 0))]],
+     [4, 4, RIM_OF_TWO, ((2, 0), (5, 1)), ((ONE, (0, 0)),)]),
+    (filling.filled_words, [4, 4, 6]),
+    (coils.coil, [7, 3, 9]),
+    (coils.coil_rim, [7, 3, 10 ** 20]),
+    (odd.due_counts, [3, (5, 6), (1, 1, 1, 1), 3]),
+    (odd.fill_with, [3, (5, 6), (1, 2) * 5, 6], [3, (5, 6), (1, 1, 1, 1), 3]),
+    (odd.judge_fill_with, [3, (5, 6), (1,) * 5, 2, ("disc", ((5,), ()), (0, 0))],
+     [3, (5, 6), (1,) * 5, 2, ("barred", (((1,) * 5, 2),))], [3, (5, 6), (1,) * 5, 2, ("barred", [[(1, 1), [2]], {}])]),
 )
 
 PARAMETERS = """
@@ -185,6 +206,12 @@ place_of_path(p, q, path); maker(p, q, place); made(p, q, place); first_made(p, 
 over(p, q, place, i); side_words(p, q, place); neighbours(p, q, place); round_corner(p, q, place, i)
 walked(p, q, place, sides); straight(p, q, place, i, n); near(p, q, place, n); least_sides(p, q, one, other)
 least_walk(p, q, one, other); judge_walk(p, q, one, other, value); patch(p, q, places); within_ring(p, q, n)
+is_word(p, q, value); mirror_word(word); ways(p, q, word); rests(p, q, word, way); way_of(p, q, gluing, side)
+parts_of(p, q, gluing, side)
+fill(p, q, word); judge_fill(p, q, word, value); fills(p, q, word); all_fills(p, q, word)
+put_first(p, q, word, way, discs); filled_words(p, q, b)
+coil(p, q, n); coil_rim(p, q, n)
+due_counts(q, sizes, word, n); fill_with(q, sizes, word, n); judge_fill_with(q, sizes, word, n, value)
 """
 
 
@@ -234,7 +261,10 @@ class Calls(unittest.TestCase):
                                  (discs.most_turned, [4, 4, 3]), (places.made, [4, 4, (1, 1)]),
                                  (over.neighbours, [4, 4, (1, 1)]), (over.round_corner, [4, 4, (1, 1), 0]),
                                  (over.walked, [4, 4, (1, 1), (0, 1)]), (over.near, [4, 4, (1, 1), 1]),
-                                 (over.least_walk, [4, 4, (1, 1), (2, 5)])):
+                                 (over.least_walk, [4, 4, (1, 1), (2, 5)]), (ways.ways, [4, 4, WORD]),
+                                 (ways.rests, [4, 4, WORD, ((), (7, 1))]), (ways.parts_of, [4, 4, TWO, (0, 3)]),
+                                 (filling.all_fills, [4, 4, WORD]), (filling.filled_words, [4, 4, 6]),
+                                 (odd.due_counts, [3, (5, 6), (1, 1, 1, 1), 3])):
             told = function(*passed)
             self.assertIs(type(told), list)
             self.assertEqual(lists_in(told), [told])

@@ -160,7 +160,7 @@ def _is_word(q, value):
 def sized_words(p, q, b):
     """Return the ascending list of the words of b letters, least turns, that tell a size."""
     found = []
-    for word in _all_words(q, b):
+    for word in all_words(q, b, MOST_WORDS):
         if least_turn(word) == word and size_of(p, q, word)[0] == "size":
             found.append(word)
     return found
@@ -171,12 +171,12 @@ def sizes_told(p, q, b):
     return sorted({size_of(p, q, word)[1] for word in sized_words(p, q, b)})
 
 
-def _all_words(q, b):
-    """Return the ascending list of the words of b letters, TooMany if they are too many."""
+def all_words(q, b, most):
+    """Return the ascending list of the words of b letters, TooMany if they are more than most."""
     many = 1
     for _ in range(b):
         many *= q - 1
-        if many > MOST_WORDS:
+        if many > most:
             raise TooMany()
     words = [()]
     for _ in range(b):
