@@ -282,6 +282,69 @@ ODD = """
     [None, ('open', ((1, 1, 1, 1, 1), 2))]
 """
 
+CLOSED = """
+    >>> from whatrims.closed import ball_of, glued, halves, ring_fault
+    >>> TRI, CAP = ((3,), ()), ((3, 3, 3), (((0, 1), (1, 2)), ((0, 2), (2, 1)), ((1, 1), (2, 2))))
+    >>> BALL = glued(TRI, (0, 0), CAP, (0, 0), 3)
+    >>> BALL
+    ((3, 3, 3, 3), (((0, 0), (1, 0)), ((0, 1), (3, 0)), ((0, 2), (2, 0)), ((1, 1), (2, 2)), ((1, 2), (3, 1)), ((2, 1), (3, 2))))
+    >>> [ball_of(3, 3) == form(BALL), len(ball_of(5, 3)[0]), ring_fault(BALL, ((0, 0), (0, 1), (0, 2))), ring_fault(BALL, ((0, 0), (0, 1))), ring_fault(BALL, ((0, 0), (1, 0)))]
+    [True, 12, None, ('side', 0), ('back', 0)]
+    >>> halves(BALL, ((0, 0), (0, 1), (0, 2)))
+    ((((3,), ()), (0, 0)), (((3, 3, 3), (((0, 1), (1, 2)), ((0, 2), (2, 1)), ((1, 1), (2, 2)))), (0, 0)))
+    >>> glued(TRI, (0, 0), TRI, (0, 0), 3)
+    raises NotGlued(number=0)
+"""
+
+DUALS = """
+    >>> from whatrims.duals import dual
+    >>> BLOCK = ((4, 4, 4, 4), (((0, 1), (1, 3)), ((0, 2), (3, 0)), ((1, 2), (2, 0)), ((2, 3), (3, 1))))
+    >>> [dual(BLOCK), dual(TRI), form(dual(BALL)) == form(BALL), form(dual(ball_of(4, 3))) == ball_of(3, 4)]
+    [((4,), ()), None, True, True]
+"""
+
+DEEDS = """
+    >>> from whatrims.deeds import after, deed_text, is_thing, read_deed, thing_text
+    >>> TWO = ((4, 4), (((0, 1), (1, 3)),))
+    >>> FIRST = after(after({}, ("gluing", "a", TWO)), ("rim", "w", "a", (0, 0)))
+    >>> [FIRST["w"], thing_text(FIRST["a"]), thing_text(FIRST["w"]), is_thing(("word", (1, 1))), is_thing(("gluing", TWO))]
+    [('word', (1, 2, 1, 1, 2, 1)), '4 4;0.1=1.3', '1 2 1 1 2 1', False, True]
+    >>> [after({}, ("tile", "t", 5)), thing_text(after(FIRST, ("take", "b", "a", 1))["b"]), thing_text(after(FIRST, ("lay", "b", "a", (0, 0), 1, 3))["b"])]
+    [{'t': ('gluing', ((5,), ()))}, '4', '4 4 3;0.0=2.0 0.1=1.3']
+    >>> [deed_text(("lay", "b", "a", (0, 3), 1, 4)), read_deed("ring b a 4 4 0.0"), read_deed("word w 1 2 1"), read_deed("gluing a 4 4;0.1=1.3")]
+    ['lay b a 0.3 1 4', ('ring', 'b', 'a', 4, 4, (0, 0)), ('word', 'w', (1, 2, 1)), ('gluing', 'a', ((4, 4), (((0, 1), (1, 3)),)))]
+    >>> after(FIRST, ("mirror", "b", "c"))
+    raises UnknownName(name='c')
+    >>> after(FIRST, ("lay", "b", "a", (0, 1), 1, 4))
+    raises BadDeed()
+"""
+
+HOUSE = """
+    >>> from whatrims.house import House
+    >>> HOUSE = House()
+    >>> [HOUSE.do(("tile", "a", 4)), HOUSE.do(("word", "w", (1, 1, 1, 1))), HOUSE.branch("side"), HOUSE.do(("word", "w", (1, 2, 1, 1, 2, 1)))]
+    [1, 2, None, 3]
+    >>> [HOUSE.keep("k", ("size", 4, 4, "w")), HOUSE.undo(), HOUSE.today("k"), HOUSE.paper("k"), HOUSE.redo(), HOUSE.today("k")]
+    [('size', 2, 0), 2, ('answer', ('size', 1, 0)), (('size', 4, 4, 'w'), ('size', 2, 0), 3), 3, None]
+    >>> [HOUSE.go("side"), HOUSE.ask(("size", 4, 4, "w")), HOUSE.do(("mirror", "b", "a")), HOUSE.go("main"), HOUSE.common(3, 4), HOUSE.merge("side"), HOUSE.elders(5)]
+    [2, ('size', 1, 0), 4, 3, 2, 5, (3, 4)]
+    >>> [HOUSE.shelf()["b"], HOUSE.ask(("kind", 4, 4, "b")), HOUSE.ask(("like", "a", "b"))[0], HOUSE.present(), HOUSE.branches()]
+    [('gluing', ((4,), ())), None, 'like', 'main', ['main', 'side']]
+    >>> HOUSE.ask(("like", "a", "w"))
+    raises BadDeed()
+"""
+
+CONSOLE = """
+    >>> from whatrims.console import Console
+    >>> CONSOLE = Console()
+    >>> [CONSOLE.say("tile a 4"), CONSOLE.say("lay b a 0.1 1 4"), CONSOLE.say("show b"), CONSOLE.say("rim b 0.0"), CONSOLE.say("counts b"), CONSOLE.say("kind 4 4 b")]
+    ['1', '2', '4 4;0.1=1.0', '1 2 1 1 2 1', '2 7 6 0', 'yes']
+    >>> [CONSOLE.say("rim w b 0.0"), CONSOLE.say("size 4 4 w"), CONSOLE.say("keep k fill 4 4 w"), CONSOLE.say("today k"), CONSOLE.say("layings b"), CONSOLE.say("show")]
+    ['3', '2', 'disc', 'right', '2', 'a b w']
+    >>> [CONSOLE.say("rim b 0.1"), CONSOLE.say("like a b"), CONSOLE.say("size 4 4 b"), CONSOLE.say("size 2 4 w"), CONSOLE.say("undo"), CONSOLE.say("stay")]
+    ['refused', 'sizes', 'refused', 'what', '2', 'what']
+"""
+
 
 class Examples(unittest.TestCase):
     def test_errors(self):
@@ -344,6 +407,22 @@ class Examples(unittest.TestCase):
 
     def test_odd(self):
         run_examples(self, ODD)
+
+    def test_closed(self):
+        # The examples of closed and duals go on with the form of an earlier one.
+        run_examples(self, FORMS + CLOSED.lstrip("\n"))
+
+    def test_duals(self):
+        run_examples(self, FORMS + CLOSED.lstrip("\n") + DUALS.lstrip("\n"))
+
+    def test_deeds(self):
+        run_examples(self, DEEDS)
+
+    def test_house(self):
+        run_examples(self, HOUSE)
+
+    def test_console(self):
+        run_examples(self, CONSOLE)
 
 
 if __name__ == "__main__":

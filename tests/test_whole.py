@@ -7,22 +7,26 @@ import pathlib
 import unittest
 
 import whatrims
-from tests.helpers import APART, BAND, BLOCK, FOLDED, NAMED, ONE, PIERCED_TORUS, TORUS, TWO, exactly_equal
-from whatrims import (coils, corners, discs, drawn, errors, filling, firsts, floors, forms, gluings, laying, odd, over,
-                      pieces, places, plain, rims, ringcounts, rings, sums, taking, texts, ways)
+from tests.helpers import (APART, BAND, BLOCK, FOLDED, NAMED, ONE, PIERCED_TORUS, TETRAHEDRON, TORUS, TWO,
+                           exactly_equal)
+from whatrims import (closed, coils, console, corners, deeds, discs, drawn, duals, errors, filling, firsts, floors, forms,
+                      gluings, house, laying, odd, over, parts, pieces, places, plain, rims, ringcounts, rings, sums,
+                      taking, texts, ways)
 from whatrims.errors import BadText, NotLaid
 
 WORD = (1, 2) * 4
 RIM_OF_TWO = (1, 1, 2, 1, 1, 2)
 LAYINGS = ((4,), (1, 1, 4), (0, 2, 4))
 FORM_OF_TWO = ((4, 4), (((0, 0), (1, 0)),))
+SHELF = {"a": ("gluing", TWO), "w": ("word", WORD)}
+CAP = ((3, 3, 3), (((0, 1), (1, 2)), ((0, 2), (2, 1)), ((1, 1), (2, 2))))
 ROW = ((4, 4, 4), (((0, 1), (1, 3)), ((1, 1), (2, 3))))
 BENT = ((4, 4, 4), (((0, 1), (1, 3)), ((1, 0), (2, 2))))
 
 # The files of the interface, and all files of the package.
 PARTS = (gluings, texts, corners, rims, pieces, sums, drawn, laying, taking, forms, discs, rings, ringcounts, places,
-         over, ways, filling, coils, odd)
-FILES = PARTS + (errors, firsts, floors, plain)
+         over, ways, filling, coils, odd, closed, duals, deeds)
+FILES = PARTS + (errors, firsts, floors, parts, plain, house, console)
 
 # What may be imported from outside the package.
 MATH = (("math", ["gcd"]), ("math", ["isqrt"]))
@@ -174,6 +178,16 @@ CALLS = (
     (odd.fill_with, [3, (5, 6), (1, 2) * 5, 6], [3, (5, 6), (1, 1, 1, 1), 3]),
     (odd.judge_fill_with, [3, (5, 6), (1,) * 5, 2, ("disc", ((5,), ()), (0, 0))],
      [3, (5, 6), (1,) * 5, 2, ("barred", (((1,) * 5, 2),))], [3, (5, 6), (1,) * 5, 2, ("barred", [[(1, 1), [2]], {}])]),
+    (closed.glued, [((3,), ()), (0, 0), CAP, (0, 0), 3]),
+    (closed.ball_of, [5, 3]),
+    (closed.ring_fault, [TETRAHEDRON, ((0, 0), (0, 1), (0, 2))], [TETRAHEDRON, ((0, 0), (1, 0))]),
+    (closed.halves, [TETRAHEDRON, ((0, 0), (0, 1), (0, 2))]),
+    (duals.dual, [BLOCK], [TETRAHEDRON], [TWO]),
+    (deeds.is_thing, [("gluing", TWO)], [["gluing", [[4], []]]], [{"word": [1]}]),
+    (deeds.thing_text, [("gluing", TWO)], [("word", WORD)]),
+    (deeds.after, [SHELF, ("mirror", "b", "a")], [SHELF, ("away", "a")], [SHELF, ("word", "a", WORD)]),
+    (deeds.deed_text, [("lay", "b", "a", (0, 3), 1, 4)]),
+    (deeds.read_deed, ["lay b a 0.3 1 4"]),
 )
 
 PARAMETERS = """
@@ -212,7 +226,19 @@ fill(p, q, word); judge_fill(p, q, word, value); fills(p, q, word); all_fills(p,
 put_first(p, q, word, way, discs); filled_words(p, q, b)
 coil(p, q, n); coil_rim(p, q, n)
 due_counts(q, sizes, word, n); fill_with(q, sizes, word, n); judge_fill_with(q, sizes, word, n, value)
+glued(one, side, other, other_side, q); ball_of(p, q); ring_fault(ball, sides); halves(ball, sides)
+dual(gluing)
+is_thing(value); thing_text(thing); after(shelf, deed); deed_text(deed); read_deed(text)
 """
+
+# The classes of the interface, with the parameters of their methods.
+METHODS = (
+    (house.House, {"number": [], "shelf": [], "shelf_at": ["number"], "elders": ["number"], "branches": [], "present": [],
+                   "do": ["deed"], "undo": [], "redo": [], "branch": ["name"], "go": ["name"], "merge": ["name"],
+                   "common": ["one", "other"], "ask": ["question"], "keep": ["label", "question"], "labels": [],
+                   "paper": ["label"], "today": ["label"]}),
+    (console.Console, {"house": [], "say": ["line"]}),
+)
 
 
 def lists_in(value):
@@ -315,6 +341,14 @@ class Interface(unittest.TestCase):
             self.assertEqual([name for name in listed if name not in defined], [])
             self.assertTrue(listed)
         self.assertEqual(len(CALLS), len({function for function, *_ in CALLS}))
+
+    def test_classes_define_their_methods_themselves(self):
+        for listed, methods in METHODS:
+            self.assertEqual(list(inspect.signature(listed).parameters), [])
+            self.assertEqual(listed.__bases__, (object,))
+            for name, parameters in methods.items():
+                self.assertEqual(list(inspect.signature(vars(listed)[name]).parameters), ["self", *parameters])
+            self.assertEqual([name for name in vars(listed) if not name.startswith("_") and name not in methods], [])
 
 
 class Sources(unittest.TestCase):

@@ -60,7 +60,10 @@ def _is_part(kind, value):
 
 
 def check_names(names, asked, shelf):
-    """Raise BadName for the first of the names that is none, else UnknownName for the first asked one not in the shelf."""
+    """Raise BadName for the first of the names that is none, else UnknownName for the first asked one not in the shelf.
+
+    All that are asked for are among the names.
+    """
     for name in names:
         if not is_name(name):
             raise BadName(name)
