@@ -63,7 +63,8 @@ class Discs(unittest.TestCase):
             word, = rim_words(gluing)
             tiles, sides, many, inner = counts(gluing)
             self.assertTrue(is_disc(gluing) and is_of(gluing, p, q) and not_disc(gluing) is None)
-            self.assertEqual((worth(gluing), handles(gluing), over_corners(gluing, q), over_tiles(gluing, p)), (1, 0, 0, 0))
+            self.assertEqual((worth(gluing), handles(gluing), over_corners(gluing, q), over_tiles(gluing, p)),
+                             (1, 0, 0, 0))
             self.assertEqual(corners_gap(gluing, p), 0)
             self.assertEqual(tiles_sum(gluing, q), rim_sum(q, word))
             self.assertEqual(tiles_sum(gluing, q), worth_sum(gluing, q))
@@ -152,7 +153,8 @@ class Discs(unittest.TestCase):
             for word in told:
                 self.assertEqual(fills(p, q, word), told[word])
                 self.assertEqual(sorted({form(each) for each in all_fills(p, q, word)}),
-                                 [gluing for gluing in forms if word in [rim_word(gluing, side) for side in rim_sides(gluing)]])
+                                 [gluing for gluing in forms if word in [rim_word(gluing,
+                                                                                  side) for side in rim_sides(gluing)]])
 
     def turns_home(self, gluing):
         """Return in how many ways a gluing is put to itself."""

@@ -49,9 +49,10 @@ class Lines(unittest.TestCase):
 
     def test_deeds(self):
         console, house = Console(), House()
-        for deed in (("tile", "a", 4), ("lay", "b", "a", (0, 1), 1, 4), ("rim", "w", "b", (0, 0)), ("fill", "f", "w", 4, 4),
-                     ("mirror", "m", "b"), ("ring", "r", "b", 4, 4, (0, 0)), ("take", "b", "b", 1), ("gluing", "g", BLOCK),
-                     ("dual", "d", "r"), ("coil", "c", 7, 3, 8), ("word", "w", WORD), ("away", "c"), ("tile", "t", 3),
+        for deed in (("tile", "a", 4), ("lay", "b", "a", (0, 1), 1, 4), ("rim", "w", "b", (0, 0)),
+                     ("fill", "f", "w", 4, 4), ("mirror", "m", "b"), ("ring", "r", "b", 4, 4, (0, 0)),
+                     ("take", "b", "b", 1), ("gluing", "g", BLOCK), ("dual", "d", "r"), ("coil", "c", 7, 3, 8),
+                     ("word", "w", WORD), ("away", "c"), ("tile", "t", 3),
                      ("gluing", "cap", ((3, 3, 3), (((0, 1), (1, 2)), ((0, 2), (2, 1)), ((1, 1), (2, 2))))),
                      ("glue", "ball", "t", (0, 0), "cap", (0, 0), 3)):
             self.assertEqual(console.say(deed_text(deed)), str(house.do(deed)))
@@ -59,9 +60,9 @@ class Lines(unittest.TestCase):
 
     def test_moves(self):
         console = console_with(("tile a 4", "tile b 5"))
-        for line, answer in (("undo", "1"), ("redo", "2"), ("branch side", "2"), ("go side", "2"), ("tile c 6", "3"), ("go main", "2"),
-                             ("tile d 7", "4"), ("merge side", "5"), ("undo", "4"), ("undo", "2"), ("undo", "1"), ("undo", "0"),
-                             ("redo", "1")):
+        for line, answer in (("undo", "1"), ("redo", "2"), ("branch side", "2"), ("go side", "2"), ("tile c 6", "3"),
+                             ("go main", "2"), ("tile d 7", "4"), ("merge side", "5"), ("undo", "4"), ("undo", "2"),
+                             ("undo", "1"), ("undo", "0"), ("redo", "1")):
             self.assertEqual(console.say(line), answer, line)
         self.assertEqual(console.house().branches(), ["main", "side"])
         console = Console()
@@ -99,13 +100,14 @@ class Lines(unittest.TestCase):
 
     def test_lines_that_ask(self):
         console = console_with()
-        for line, answer in (("size 4 4 w", "2"), ("size 4 4 v", "none"), ("size 3 3 v", "1"), ("size 7 3 e", "6"), ("fill 4 4 w", "disc"),
-                             ("fill 7 3 e", "barred"), ("fill 3 3 v", "disc"), ("like a a", "like"), ("like a b", "sizes"),
-                             ("kind 4 4 b", "yes"), ("kind 4 5 b", "inner"), ("kind 3 6 b", "tile"), ("kind 4 3 band", "yes"),
+        for line, answer in (("size 4 4 w", "2"), ("size 4 4 v", "none"), ("size 3 3 v", "1"), ("size 7 3 e", "6"),
+                             ("fill 4 4 w", "disc"), ("fill 7 3 e", "barred"), ("fill 3 3 v", "disc"),
+                             ("like a a", "like"), ("like a b", "sizes"), ("kind 4 4 b", "yes"),
+                             ("kind 4 5 b", "inner"), ("kind 3 6 b", "tile"), ("kind 4 3 band", "yes"),
                              ("kind 4 12 a", "yes"), ("layings b", "4"), ("layings long", "1")):
             self.assert_nothing(console, line, answer)
-        for line in ("size 4 4 a", "size 4 4 z", "fill 4 4 b", "fill 4 4 z", "like a w", "like a z", "like a two", "kind 4 4 w",
-                     "kind 4 4 z", "layings band", "layings w", "layings z"):
+        for line in ("size 4 4 a", "size 4 4 z", "fill 4 4 b", "fill 4 4 z", "like a w", "like a z", "like a two",
+                     "kind 4 4 w", "kind 4 4 z", "layings band", "layings w", "layings z"):
             self.assert_nothing(console, line, "refused")
         console.say("word big 1 1 5")
         for line in ("size 4 4 big", "fill 4 5 big"):
@@ -120,8 +122,8 @@ class Lines(unittest.TestCase):
 
     def test_keep_and_today(self):
         console = console_with()
-        lines = {"s": "size 4 4 w", "n": "size 4 4 v", "f": "fill 4 4 w", "e": "fill 7 3 e", "l": "like a a", "k": "kind 4 4 b",
-                 "y": "layings b"}
+        lines = {"s": "size 4 4 w", "n": "size 4 4 v", "f": "fill 4 4 w", "e": "fill 7 3 e", "l": "like a a",
+                 "k": "kind 4 4 b", "y": "layings b"}
         for label, line in lines.items():
             self.assertEqual(console.say(f"keep {label} {line}"), console.say(line))
             self.assertEqual(console.say("today " + label), "right")
@@ -130,7 +132,8 @@ class Lines(unittest.TestCase):
         self.assertEqual(house.paper("s"), (("size", 4, 4, "w"), ("size", 2, 0), 8))
         self.assertEqual(house.paper("l")[0], ("like", "a", "a"))
         self.assertEqual(house.paper("y")[0], ("layings", "b"))
-        for line in ("keep s size 4 4 w", "keep x size 4 4 z", "keep x fill 4 4 a", "keep x like a w", "keep x layings band", "today x"):
+        for line in ("keep s size 4 4 w", "keep x size 4 4 z", "keep x fill 4 4 a", "keep x like a w",
+                     "keep x layings band", "today x"):
             self.assert_nothing(console, line, "refused")
         console.say("word w 1 2 1 2 1 2 1 2")
         console.say("tile a 5")
@@ -152,9 +155,10 @@ class Lines(unittest.TestCase):
 
     def test_deeds_that_are_refused(self):
         console = console_with()
-        for line in ("away z", "mirror x z", "mirror x w", "lay x a 0.0 4 4", "lay x b 0.1 1 4", "take x a 0", "take x b 9", "rim x long 0.0",
-                     "rim x band 0.0", "coil x 3 3 4", "ring x a 4 5 0.9", "fill x v 4 4", "fill x w 7 12", "glue x a 0.0 v 0.0 4",
-                     "glue x a 0.0 long 0.0 4", "dual x a", "ring x band 4 4 0.0"):
+        for line in ("away z", "mirror x z", "mirror x w", "lay x a 0.0 4 4", "lay x b 0.1 1 4", "take x a 0",
+                     "take x b 9", "rim x long 0.0", "rim x band 0.0", "coil x 3 3 4", "ring x a 4 5 0.9",
+                     "fill x v 4 4", "fill x w 7 12", "glue x a 0.0 v 0.0 4", "glue x a 0.0 long 0.0 4", "dual x a",
+                     "ring x band 4 4 0.0"):
             self.assert_nothing(console, line, "refused")
         for name in "cdfg":
             console.say(f"tile {name} 3")
@@ -163,19 +167,38 @@ class Lines(unittest.TestCase):
 
     def test_no_lines(self):
         console = console_with()
-        for line in [value for value in STRANGE if value != "ab"] + [
-                "ab", "stay", "Undo", "undo ", " undo", "undo main", "undo\n", "redo 1", "branch", "branch A", "branch a b", "branch ",
-                "branch abcdefghi", "go", "go 1", "go main main", "merge", "merge Main", "show a b", "show A", "show  a", "show ", "show\ta",
-                "rim", "rim b", "rim b 0", "rim b 00.0", "rim b 0.00", "rim b 0.0.0", "rim B 0.0", "rim b -1.0", "rim b 1234567890.0",
-                "rim b 0.0 ", "rim x b", "rim x b 0", "counts", "counts B", "counts a b", "size", "size 4 4", "size 4 w", "size 2 4 w",
-                "size 4 13 w", "size 04 4 w", "size 4 4 W", "size 4 4 w w", "size four 4 w", "size +4 4 w", "fill 4 4", "fill 4 4 W",
-                "fill 4 2 w", "fill w 4 4", "fill x w 4 13", "like a", "like a b c", "like a B", "kind 4 4", "kind 4 4 B", "kind 2 4 b",
-                "kind 4 4 b b", "layings", "layings B", "layings a b", "keep", "keep k", "keep k ", "keep K size 4 4 w", "keep k size 4 4 W",
-                "keep k size 4 13 w", "keep k show", "keep k undo", "keep k tile a 4", "keep k counts b", "keep k keep l size 4 4 w",
-                "keep k today k", "keep  size 4 4 w", "keep size 4 4 w", "keep k  size 4 4 w", "keep k rim b 0.0", "today", "today K",
-                "today k k", "tile a 2", "tile A 4", "tile a 4 ", "tile a 25", "lay b a 0.3 0 4", "gluing a 2", "gluing a 4;", "word w 1 1",
-                "word w 1 12 1", "coil c 4 4 61", "ring b a 4 13 0.0", "do tile a 4", "size 4 4 w\n", "number", "labels", "ask size 4 4 w",
-                "paper s", "present", "shelf", "elders 1", "common 1 2"]:
+        for line in [value for value in STRANGE if value != "ab"] + ["ab", "stay", "Undo", "undo ", " undo",
+                                                                     "undo main", "undo\n", "redo 1", "branch",
+                                                                     "branch A", "branch a b", "branch ",
+                                                                     "branch abcdefghi", "go", "go 1", "go main main",
+                                                                     "merge", "merge Main", "show a b", "show A",
+                                                                     "show  a", "show ", "show\ta", "rim", "rim b",
+                                                                     "rim b 0", "rim b 00.0", "rim b 0.00",
+                                                                     "rim b 0.0.0", "rim B 0.0", "rim b -1.0",
+                                                                     "rim b 1234567890.0", "rim b 0.0 ", "rim x b",
+                                                                     "rim x b 0", "counts", "counts B", "counts a b",
+                                                                     "size", "size 4 4", "size 4 w", "size 2 4 w",
+                                                                     "size 4 13 w", "size 04 4 w", "size 4 4 W",
+                                                                     "size 4 4 w w", "size four 4 w", "size +4 4 w",
+                                                                     "fill 4 4", "fill 4 4 W", "fill 4 2 w",
+                                                                     "fill w 4 4", "fill x w 4 13", "like a",
+                                                                     "like a b c", "like a B", "kind 4 4", "kind 4 4 B",
+                                                                     "kind 2 4 b", "kind 4 4 b b", "layings",
+                                                                     "layings B", "layings a b", "keep", "keep k",
+                                                                     "keep k ", "keep K size 4 4 w",
+                                                                     "keep k size 4 4 W", "keep k size 4 13 w",
+                                                                     "keep k show", "keep k undo", "keep k tile a 4",
+                                                                     "keep k counts b", "keep k keep l size 4 4 w",
+                                                                     "keep k today k", "keep  size 4 4 w",
+                                                                     "keep size 4 4 w", "keep k  size 4 4 w",
+                                                                     "keep k rim b 0.0", "today", "today K",
+                                                                     "today k k", "tile a 2", "tile A 4", "tile a 4 ",
+                                                                     "tile a 25", "lay b a 0.3 0 4", "gluing a 2",
+                                                                     "gluing a 4;", "word w 1 1", "word w 1 12 1",
+                                                                     "coil c 4 4 61", "ring b a 4 13 0.0",
+                                                                     "do tile a 4", "size 4 4 w\n", "number", "labels",
+                                                                     "ask size 4 4 w", "paper s", "present", "shelf",
+                                                                     "elders 1", "common 1 2"]:
             self.assert_nothing(console, line, "what")
 
     def test_long_lines(self):

@@ -65,20 +65,22 @@ class Things(unittest.TestCase):
     def test_words(self):
         for word in ((1, 1, 1), (11,) * 16, (1, 5, 11)):
             self.assertIs(is_thing(("word", word)), True)
-        for word in ((1, 1), (1,), (), (1,) * 17, (0, 1, 1), (1, 12, 1), (1, 1, -1), (1, True, 1), [1, 1, 1], "111", None,
-                     (1, (1,), 1), ONE):
+        for word in ((1, 1), (1,), (), (1,) * 17, (0, 1, 1), (1, 12, 1), (1, 1, -1), (1, True, 1), [1, 1, 1], "111",
+                     None, (1, (1,), 1), ONE):
             self.assertIs(is_thing(("word", word)), False)
 
     def test_any_value(self):
-        for value in STRANGE + [("tile", ONE), ("gluing",), ("word", WORD, 1), ["word", WORD], (["word"], WORD), ("Word", WORD),
-                                (1, WORD), (None, ONE), ("gluing", WORD), ("word", ONE), ("", ()), {"word": WORD}]:
+        for value in STRANGE + [("tile", ONE), ("gluing",), ("word", WORD, 1), ["word", WORD], (["word"], WORD),
+                                ("Word", WORD), (1, WORD), (None, ONE), ("gluing", WORD), ("word", ONE), ("", ()),
+                                {"word": WORD}]:
             self.assertIs(is_thing(value), False, value)
         for thing in (("gluing", TWO), ("word", WORD)):
             for value in changes(thing, STRANGE):
                 told = is_thing(value)
                 self.assertIs(type(told), bool)
                 if told:
-                    self.assertTrue(exactly_equal(read_deed(f"{value[0]} x {thing_text(value)}"), (value[0], "x", value[1])))
+                    self.assertTrue(exactly_equal(read_deed(f"{value[0]} x {thing_text(value)}"),
+                                                  (value[0], "x", value[1])))
 
     def test_texts(self):
         for gluing in FAMILY[::9]:
@@ -115,7 +117,8 @@ class After(unittest.TestCase):
     def test_fill_and_glue(self):
         told = after(SHELF, ("fill", "n", "w", 4, 4))["n"]
         self.assertEqual(told[0], "gluing")
-        self.assertTrue(any(judge_fill(4, 4, WORD, ("disc", told[1], (t, i))) is None for t in range(4) for i in range(4)))
+        self.assertTrue(any(judge_fill(4, 4, WORD,
+                                       ("disc", told[1], (t, i))) is None for t in range(4) for i in range(4)))
         told = after(SHELF, ("glue", "n", "tri", (0, 1), "cap", (1, 0), 3))["n"]
         self.assertEqual(told, ("gluing", glued(TRI, (0, 1), CAP, (1, 0), 3)))
 
@@ -127,17 +130,18 @@ class After(unittest.TestCase):
         self.assertEqual(after({"a": ("word", WORD)}, ("away", "a")), {})
 
     def test_no_deeds(self):
-        for deed in STRANGE + [list(DEEDS[0]), ("gluing",), ("GLUING", "n", TWO), (["gluing"], "n", TWO), (None, "n", TWO),
-                               ("gluing", "n", ((3,) * 61, ())), ("gluing", "n", WORD), ("gluing", "n", "4"),
-                               ("word", "n", (1, 1)), ("word", "n", (1, 12, 1)), ("word", "n", [1, 1, 1]), ("word", "n", TWO),
-                               ("word", "n", (1,) * 17), ("word", "n", (1, True, 1)), ("undo",), ("away",), ("away", "w", "a"),
-                               ("mirror", "n"), ("mirror", "n", "a", "b"), ("", "n", "a")]:
+        for deed in STRANGE + [list(DEEDS[0]), ("gluing",), ("GLUING", "n", TWO), (["gluing"], "n", TWO),
+                               (None, "n", TWO), ("gluing", "n", ((3,) * 61, ())), ("gluing", "n", WORD),
+                               ("gluing", "n", "4"), ("word", "n", (1, 1)), ("word", "n", (1, 12, 1)),
+                               ("word", "n", [1, 1, 1]), ("word", "n", TWO), ("word", "n", (1,) * 17),
+                               ("word", "n", (1, True, 1)), ("undo",), ("away",), ("away", "w", "a"), ("mirror", "n"),
+                               ("mirror", "n", "a", "b"), ("", "n", "a")]:
             self.assert_raises(BadDeed, SHELF, deed)
 
     def test_limits_of_integers(self):
-        limits = {("tile", 2): (3, 24), ("lay", 4): (1, None), ("lay", 5): (3, 24), ("take", 3): (0, None), ("ring", 3): (3, 12),
-                  ("ring", 4): (3, 12), ("coil", 2): (3, 12), ("coil", 3): (3, 12), ("coil", 4): (1, 60),
-                  ("fill", 3): (3, 12), ("fill", 4): (3, 12), ("glue", 6): (3, 12)}
+        limits = {("tile", 2): (3, 24), ("lay", 4): (1, None), ("lay", 5): (3, 24), ("take", 3): (0, None),
+                  ("ring", 3): (3, 12), ("ring", 4): (3, 12), ("coil", 2): (3, 12), ("coil", 3): (3, 12),
+                  ("coil", 4): (1, 60), ("fill", 3): (3, 12), ("fill", 4): (3, 12), ("glue", 6): (3, 12)}
         for deed in DEEDS:
             for k, part in enumerate(deed):
                 if type(part) is int:
@@ -154,7 +158,8 @@ class After(unittest.TestCase):
         for deed in DEEDS:
             for k, part in enumerate(deed):
                 if part in ((0, 3), (1, 1), (0, 0), (0, 2)) and deed[0] not in ("gluing", "word"):
-                    for value in ([0, 3], (0,), (0, 0, 0), (0, -1), (-1, 0), (True, 0), (0, False), None, 3, "0.3", (0, None)):
+                    for value in ([0, 3], (0,), (0, 0, 0), (0, -1), (-1, 0), (True, 0), (0, False), None, 3, "0.3",
+                                  (0, None)):
                         self.assert_raises(BadDeed, {}, (*deed[:k], value, *deed[k + 1:]))
                     changed = (deed[0], 7, *deed[2:k], (0, 10 ** 39), *deed[k + 1:])
                     self.assertEqual(self.assert_raises(BadName, {}, changed).name, 7)
@@ -163,16 +168,19 @@ class After(unittest.TestCase):
         for deed in DEEDS:
             places = [k for k, part in enumerate(deed) if k > 0 and isinstance(part, str)]
             for k in places:
-                for name in ("", "A", "a1", "abcdefghi", " a", "a ", "a.b", "_", None, 4, ["a"], {"a": []}, ("a",), True):
+                for name in ("", "A", "a1", "abcdefghi", " a", "a ", "a.b", "_", None, 4, ["a"], {"a": []}, ("a",),
+                             True):
                     error = self.assert_raises(BadName, SHELF, (*deed[:k], name, *deed[k + 1:]))
                     self.assertTrue(exactly_equal(error.name, name))
                     # The first one is told, and ahead of names that are not there.
-                    worse = tuple([name if j == k else "nowhere" if j in places else part for j, part in enumerate(deed)])
+                    worse = [name if j == k else "nowhere" if j in places else part for j, part in enumerate(deed)]
+                    worse = tuple(worse)
                     self.assertTrue(exactly_equal(self.assert_raises(BadName, SHELF, worse).name, name))
             all_bad = tuple([f"Bad {k}" if k in places else part for k, part in enumerate(deed)])
             self.assertEqual(self.assert_raises(BadName, SHELF, all_bad).name, "Bad 1")
             for k in places[1:] if deed[0] != "away" else places:
-                unknown = tuple([f"x{'abcdefgh'[j]}" if j in places and j >= k else part for j, part in enumerate(deed)])
+                unknown = [f"x{'abcdefgh'[j]}" if j in places and j >= k else part for j, part in enumerate(deed)]
+                unknown = tuple(unknown)
                 self.assertEqual(self.assert_raises(UnknownName, SHELF, unknown).name, unknown[k])
         self.assertEqual(after({}, ("tile", "abcdefgh", 3)), {"abcdefgh": ("gluing", ((3,), ()))})
         self.assertEqual(after({}, ("tile", "z", 3)), {"z": ("gluing", ((3,), ()))})
@@ -183,34 +191,49 @@ class After(unittest.TestCase):
         self.assert_raises(UnknownName, SHELF, ("fill", "n", "nowhere", 3, 3))
         self.assert_raises(UnknownName, {}, ("away", "n"))
 
-    def test_deeds_that_cannot_be_done(self):
-        for deed in (("lay", "n", "w", (0, 0), 1, 4), ("take", "n", "w", 0), ("ring", "n", "w", 4, 4, (0, 0)),
-                     ("fill", "n", "a", 4, 4), ("glue", "n", "w", (0, 0), "a", (0, 0), 4), ("glue", "n", "a", (0, 0), "w", (0, 0), 4),
-                     ("mirror", "n", "w"), ("dual", "n", "w"), ("rim", "n", "w", (0, 0)),
-                     # Sides that are none, or on no rim.
-                     ("lay", "n", "a", (0, 1), 1, 4), ("lay", "n", "a", (2, 0), 1, 4), ("lay", "n", "a", (0, 4), 1, 4),
-                     ("ring", "n", "a", 4, 4, (1, 3)), ("ring", "n", "a", 4, 4, (1, 4)), ("rim", "n", "a", (0, 1)),
-                     ("rim", "n", "c", (0, 0)), ("glue", "n", "a", (0, 1), "a", (0, 0), 3), ("glue", "n", "a", (0, 0), "a", (1, 3), 3),
-                     ("glue", "n", "a", (0, 0), "a", (5, 3), 3),
-                     # Too many sides.
-                     ("lay", "n", "a", (0, 0), 4, 4), ("lay", "n", "a", (0, 0), 6, 24), ("lay", "n", "one", (0, 0), 4, 24),
-                     ("lay", "n", "band", (0, 0), 2, 4), ("lay", "n", "a", (0, 0), 10 ** 39, 4),
-                     # No discs, and no takers.
-                     ("take", "n", "band", 0), ("take", "n", "one", 0), ("take", "n", "b", 4), ("take", "n", "c", 0),
-                     ("take", "n", "a", 10 ** 39), ("glue", "n", "band", (0, 0), "band", (0, 0), 4),
-                     ("glue", "n", "one", (0, 0), "band", (0, 0), 4), ("glue", "n", "band", (0, 0), "one", (0, 0), 4),
-                     # Kinds without rings, and other kinds.
-                     ("coil", "n", 3, 5, 1), ("coil", "n", 5, 3, 9), ("coil", "n", 3, 3, 1), ("ring", "n", "tri", 3, 5, (0, 0)),
-                     ("ring", "n", "tri", 4, 4, (0, 0)), ("ring", "n", "b", 4, 5, (0, 0)), ("ring", "n", "a", 5, 4, (0, 0)),
-                     ("ring", "n", "band", 4, 4, (0, 0)),
-                     # Words that are not filled.
-                     ("fill", "n", "w", 4, 5), ("fill", "n", "w", 3, 3), ("fill", "n", "w", 7, 3),
-                     # No inner corners.
-                     ("dual", "n", "a"), ("dual", "n", "one"),
-                     # Rims that are too long, or too short.
-                     ("rim", "n", "sixty", (40, 2)), ("rim", "n", "band", (0, 0))):
-            self.assertEqual(rim_word(BAND, (0, 0)), (2, 2))
+    def assert_not_done(self, *deeds):
+        for deed in deeds:
             self.assert_raises(BadDeed, SHELF, deed)
+
+    def test_words_for_gluings_and_gluings_for_words(self):
+        self.assert_not_done(("lay", "n", "w", (0, 0), 1, 4), ("take", "n", "w", 0), ("ring", "n", "w", 4, 4, (0, 0)),
+                             ("fill", "n", "a", 4, 4), ("glue", "n", "w", (0, 0), "a", (0, 0), 4),
+                             ("glue", "n", "a", (0, 0), "w", (0, 0), 4), ("mirror", "n", "w"), ("dual", "n", "w"),
+                             ("rim", "n", "w", (0, 0)))
+
+    def test_sides_that_are_none_or_on_no_rim(self):
+        self.assert_not_done(("lay", "n", "a", (0, 1), 1, 4), ("lay", "n", "a", (2, 0), 1, 4),
+                             ("lay", "n", "a", (0, 4), 1, 4), ("ring", "n", "a", 4, 4, (1, 3)),
+                             ("ring", "n", "a", 4, 4, (1, 4)), ("rim", "n", "a", (0, 1)), ("rim", "n", "c", (0, 0)),
+                             ("glue", "n", "a", (0, 1), "a", (0, 0), 3), ("glue", "n", "a", (0, 0), "a", (1, 3), 3),
+                             ("glue", "n", "a", (0, 0), "a", (5, 3), 3))
+
+    def test_tiles_laid_on_too_many_sides(self):
+        self.assert_not_done(("lay", "n", "a", (0, 0), 4, 4), ("lay", "n", "a", (0, 0), 6, 24),
+                             ("lay", "n", "one", (0, 0), 4, 24), ("lay", "n", "band", (0, 0), 2, 4),
+                             ("lay", "n", "a", (0, 0), 10 ** 39, 4))
+        self.assertIn("n", after(SHELF, ("lay", "n", "a", (0, 0), 5, 24)))
+        self.assertIn("n", after(SHELF, ("lay", "n", "a", (0, 0), 3, 4)))
+
+    def test_no_discs_and_no_takers(self):
+        self.assert_not_done(("take", "n", "band", 0), ("take", "n", "one", 0), ("take", "n", "b", 4),
+                             ("take", "n", "c", 0), ("take", "n", "a", 10 ** 39),
+                             ("glue", "n", "band", (0, 0), "band", (0, 0), 4),
+                             ("glue", "n", "one", (0, 0), "band", (0, 0), 4),
+                             ("glue", "n", "band", (0, 0), "one", (0, 0), 4))
+
+    def test_kinds_without_rings_and_other_kinds(self):
+        self.assert_not_done(("coil", "n", 3, 5, 1), ("coil", "n", 5, 3, 9), ("coil", "n", 3, 3, 1),
+                             ("ring", "n", "tri", 3, 5, (0, 0)), ("ring", "n", "tri", 4, 4, (0, 0)),
+                             ("ring", "n", "b", 4, 5, (0, 0)), ("ring", "n", "a", 5, 4, (0, 0)))
+        # Of the kind, but with two letters along the rim.
+        self.assertEqual(rim_word(BAND, (0, 0)), (2, 2))
+        self.assert_not_done(("ring", "n", "band", 4, 4, (0, 0)))
+
+    def test_what_is_not_filled_has_no_inner_corner_or_no_word(self):
+        self.assert_not_done(("fill", "n", "w", 4, 5), ("fill", "n", "w", 3, 3), ("fill", "n", "w", 7, 3),
+                             ("dual", "n", "a"), ("dual", "n", "one"), ("rim", "n", "sixty", rim_sides(LONG)[0]),
+                             ("rim", "n", "band", (0, 0)))
 
     def test_a_row_of_tiles_that_is_no_disc_cannot_be_taken_from(self):
         shelf = {"a": ("gluing", ((4, 4, 4), (((0, 1), (1, 3)),))), "f": ("gluing", FOLDED), "s": ("gluing", BALL)}
@@ -241,6 +264,12 @@ class After(unittest.TestCase):
         self.assertEqual(after(shelf, ("fill", "n", "w", 4, 3))["n"], ("gluing", ONE))
         for q in (3, 4):
             self.assert_raises(BadDeed, shelf, ("fill", "n", "x", 4, q))
+        # Four squares round a corner that is on the rim: no such corner is one of four tiles at each corner within.
+        fan = ((4,) * 4, tuple([((t, 3), (t + 1, 0)) for t in range(3)]))
+        shelf = {"w": ("word", rim_word(fan, (0, 0)))}
+        self.assertEqual(max(shelf["w"][1]), 4)
+        self.assert_raises(BadDeed, shelf, ("fill", "n", "w", 4, 4))
+        self.assertEqual(len(after(shelf, ("fill", "n", "w", 4, 5))["n"][1][0]), 4)
 
     def test_rings_that_do_not_lie(self):
         fan = ((3,) * 5, tuple([((t, 2), (t + 1, 0)) for t in range(4)]))
@@ -304,7 +333,8 @@ class After(unittest.TestCase):
         self.assertEqual(len(after(full(11), ("tile", "z", 3))), 12)
         self.assertEqual(len(after(full(12), ("tile", "a", 3))), 12)
         self.assertEqual(len(after(full(12), ("away", "a"))), 11)
-        for deed in (("tile", "z", 3), ("mirror", "z", "a"), ("rim", "z", "a", (0, 0)), ("word", "z", WORD), ("coil", "z", 4, 4, 5)):
+        for deed in (("tile", "z", 3), ("mirror", "z", "a"), ("rim", "z", "a", (0, 0)), ("word", "z", WORD),
+                     ("coil", "z", 4, 4, 5)):
             self.assert_raises(TooMany, full(12), deed)
 
     def test_two_errors_at_once(self):
@@ -333,8 +363,9 @@ class After(unittest.TestCase):
 class Texts(unittest.TestCase):
     def test_back_and_forth(self):
         for deed in DEEDS + (("lay", "n", "a", (999999999, 0), 999999999, 24), ("take", "abcdefgh", "z", 0),
-                             ("glue", "x", "y", (0, 10), "z", (12, 0), 12), ("word", "x", (1,) * 16), ("gluing", "x", SIXTY),
-                             ("gluing", "gluing", ONE), ("word", "word", WORD), ("away", "away")):
+                             ("glue", "x", "y", (0, 10), "z", (12, 0), 12), ("word", "x", (1,) * 16),
+                             ("gluing", "x", SIXTY), ("gluing", "gluing", ONE), ("word", "word", WORD),
+                             ("away", "away")):
             text = deed_text(deed)
             self.assertIs(type(text), str)
             self.assertTrue(exactly_equal(read_deed(text), deed), text)
@@ -343,26 +374,31 @@ class Texts(unittest.TestCase):
         for deed, text in ((("lay", "b", "a", (0, 3), 1, 4), "lay b a 0.3 1 4"), (("tile", "a", 5), "tile a 5"),
                            (("gluing", "a", TWO), "gluing a 4 4;0.1=1.3"), (("gluing", "a", ONE), "gluing a 4"),
                            (("word", "w", (1, 2, 11)), "word w 1 2 11"), (("take", "a", "b", 0), "take a b 0"),
-                           (("ring", "b", "a", 4, 12, (0, 0)), "ring b a 4 12 0.0"), (("coil", "c", 7, 3, 60), "coil c 7 3 60"),
-                           (("fill", "a", "w", 7, 3), "fill a w 7 3"), (("mirror", "a", "b"), "mirror a b"),
-                           (("glue", "a", "b", (0, 1), "c", (10, 2), 3), "glue a b 0.1 c 10.2 3"), (("dual", "a", "b"), "dual a b"),
-                           (("rim", "a", "b", (1, 0)), "rim a b 1.0"), (("away", "a"), "away a")):
+                           (("ring", "b", "a", 4, 12, (0, 0)), "ring b a 4 12 0.0"),
+                           (("coil", "c", 7, 3, 60), "coil c 7 3 60"), (("fill", "a", "w", 7, 3), "fill a w 7 3"),
+                           (("mirror", "a", "b"), "mirror a b"),
+                           (("glue", "a", "b", (0, 1), "c", (10, 2), 3), "glue a b 0.1 c 10.2 3"),
+                           (("dual", "a", "b"), "dual a b"), (("rim", "a", "b", (1, 0)), "rim a b 1.0"),
+                           (("away", "a"), "away a")):
             self.assertEqual(deed_text(deed), text)
             self.assertTrue(exactly_equal(read_deed(text), deed))
 
     def test_no_texts_of_deeds(self):
-        texts = ["", " ", "undo", "tile", "tile a", "tile a 2", "tile a 25", "tile a 05", "tile a +5", "tile a -5", "tile a 5 ",
-                 " tile a 5", "tile  a 5", "tile a  5", "tile a 5\n", "tile a\t5", "tile\na 5", "Tile a 5", "tile A 5", "tile a1 5",
-                 "tile abcdefghi 5", "tile a 5 5", "tile a 1000000005", "tile a five", "tile a 5.0", "tile  5", "tile a ",
-                 "lay b a 0.3 0 4", "lay b a 0.3 1 2", "lay b a 03 1 4", "lay b a 0.3.1 1 4", "lay b a .3 1 4", "lay b a 0. 1 4",
-                 "lay b a 00.3 1 4", "lay b a 0.03 1 4", "lay b a 0.-3 1 4", "lay b a 0,3 1 4", "lay b a 1234567890.3 1 4",
-                 "lay b a 0.3 1234567890 4", "lay b a 0.3 01 4", "take a b -1", "take a b 00", "take a b 1234567890", "ring b a 4 13 0.0",
-                 "ring b a 2 4 0.0", "coil c 4 4 0", "coil c 4 4 61", "coil c 4 4 060", "gluing a", "gluing a ", "gluing a 2",
-                 "gluing a 4 4;0.1=0.1", "gluing a 4  4", "gluing a 4 4;", "gluing a 4 4 ", "gluing  4", "gluing A 4", "gluing a 04",
-                 "gluing a " + " ".join(["3"] * 61), "word w 1 2", "word w " + "1 " * 16 + "1", "word w 1 12 1", "word w 1 0 1",
-                 "word w", "word w ", "word w 1 2  1", "word w 1 2 01", "word 1 2 1", "word W 1 2 1", "away", "away a b", "away A",
-                 "glue a b 0.1 c 10.2 13", "glue a b 0.1 c 10.2 2", "mirror a", "mirror a b c", "rim a b", "rim a b 0", "rim a 0.0"]
-        for text in texts + [value for value in STRANGE if not isinstance(value, str)] + [list("tile a 5"), ("tile", "a", 5), b""]:
+        texts = ["", " ", "undo", "tile", "tile a", "tile a 2", "tile a 25", "tile a 05", "tile a +5", "tile a -5",
+                 "tile a 5 ", " tile a 5", "tile  a 5", "tile a  5", "tile a 5\n", "tile a\t5", "tile\na 5", "Tile a 5",
+                 "tile A 5", "tile a1 5", "tile abcdefghi 5", "tile a 5 5", "tile a 1000000005", "tile a five",
+                 "tile a 5.0", "tile a q", "tile a 1q", "tile  5", "tile a ", "lay b a 0.3 0 4", "lay b a 0.3 1 2",
+                 "lay b a 03 1 4", "lay b a 0.3.1 1 4", "lay b a .3 1 4", "lay b a 0. 1 4", "lay b a 00.3 1 4",
+                 "lay b a 0.03 1 4", "lay b a 0.-3 1 4", "lay b a 0,3 1 4", "lay b a 1234567890.3 1 4",
+                 "lay b a 0.3 1234567890 4", "lay b a 0.3 01 4", "take a b -1", "take a b 00", "take a b 1234567890",
+                 "ring b a 4 13 0.0", "ring b a 2 4 0.0", "coil c 4 4 0", "coil c 4 4 61", "coil c 4 4 060", "gluing a",
+                 "gluing a ", "gluing a 2", "gluing a 4 4;0.1=0.1", "gluing a 4  4", "gluing a 4 4;", "gluing a 4 4 ",
+                 "gluing  4", "gluing A 4", "gluing a 04", "gluing a " + " ".join(["3"] * 61), "word w 1 2",
+                 "word w " + "1 " * 16 + "1", "word w 1 12 1", "word w 1 0 1", "word w", "word w ", "word w 1 2  1",
+                 "word w 1 2 01", "word 1 2 1", "word W 1 2 1", "away", "away a b", "away A", "glue a b 0.1 c 10.2 13",
+                 "glue a b 0.1 c 10.2 2", "mirror a", "mirror a b c", "rim a b", "rim a b 0", "rim a 0.0"]
+        for text in texts + [value for value in STRANGE if not isinstance(value, str)] + [list("tile a 5"),
+                                                                                          ("tile", "a", 5), b""]:
             with self.assertRaises(BadText) as caught:
                 read_deed(text)
             self.assertTrue(exactly_equal(caught.exception.place, 0))

@@ -114,7 +114,8 @@ class Dual(unittest.TestCase):
 
     def test_a_ball_of_unlike_tiles(self):
         # A prism: two triangles and three squares, three tiles at each corner.
-        prism = ((3, 4, 4, 4, 3), (((0, 0), (1, 0)), ((0, 1), (2, 0)), ((0, 2), (3, 0)), ((1, 1), (3, 3)), ((1, 2), (4, 0)),
+        prism = ((3, 4, 4, 4,
+                  3), (((0, 0), (1, 0)), ((0, 1), (2, 0)), ((0, 2), (3, 0)), ((1, 1), (3, 3)), ((1, 2), (4, 0)),
                                    ((1, 3), (2, 1)), ((2, 2), (4, 2)), ((2, 3), (3, 1)), ((3, 2), (4, 1))))
         self.assertTrue(is_gluing(prism) and is_ball(prism))
         found = self.check(prism)

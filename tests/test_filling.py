@@ -134,12 +134,13 @@ class Judge(unittest.TestCase):
     def test_each_fault(self):
         self.assertIsNone(judge_fill(4, 4, TWO, ("disc", DOMINO, (0, 3))))
         self.assertIsNone(judge_fill(4, 4, TWO, ("disc", DOMINO, (1, 1))))
-        for value in (None, ("disc", DOMINO), ("disc", DOMINO, (0, 3), 1), ["disc", DOMINO, (0, 3)], ("disk", DOMINO, (0, 3)),
-                      ("disc", ((4, 4), [((0, 1), (1, 3))]), (0, 3)), ("disc", DOMINO, (0, 4)), ("disc", DOMINO, [0, 3]),
-                      ("disc", DOMINO, (False, 3)), ("disc", DOMINO, None), ("barred", DOMINO, (0, 3)), ("disc", (TWO,)),
-                      ("barred", ()), ("barred", [TWO]), ("barred", (TWO, TWO)), ("barred", (TWO, ONE)), ("barred",),
-                      ("barred", (TWO,), 1), ("barred", ((1, 1),)), ("barred", (ONE, (1, 1, 4))), ("barred", (list(TWO),)),
-                      ("barred", TWO), ("barred", ((1, 1, True), TWO))):
+        for value in (None, ("disc", DOMINO), ("disc", DOMINO, (0, 3), 1), ["disc", DOMINO, (0, 3)],
+                      ("disk", DOMINO, (0, 3)), ("disc", ((4, 4), [((0, 1), (1, 3))]), (0, 3)),
+                      ("disc", DOMINO, (0, 4)), ("disc", DOMINO, [0, 3]), ("disc", DOMINO, (False, 3)),
+                      ("disc", DOMINO, None), ("barred", DOMINO, (0, 3)), ("disc", (TWO,)), ("barred", ()),
+                      ("barred", [TWO]), ("barred", (TWO, TWO)), ("barred", (TWO, ONE)), ("barred",),
+                      ("barred", (TWO,), 1), ("barred", ((1, 1),)), ("barred", (ONE, (1, 1, 4))),
+                      ("barred", (list(TWO),)), ("barred", TWO), ("barred", ((1, 1, True), TWO))):
             self.assertEqual(judge_fill(4, 4, TWO, value), ("form",), value)
         for gluing, side in ((BAND, (0, 0)), (BAND, (0, 1)), (APART, (0, 1)), (BALL, (0, 0)), (((3,), ()), (0, 0)),
                              (((4, 3), (((0, 1), (1, 2)),)), (0, 3)), (((4, 4, 4), DOMINO[1]), (0, 3))):
@@ -201,8 +202,8 @@ class Judge(unittest.TestCase):
 
 class Counts(unittest.TestCase):
     def test_against_all_discs_of_a_kind(self):
-        for p, q, most in ((3, 3, 3), (3, 4, 6), (3, 5, 6), (3, 6, 7), (3, 7, 6), (4, 3, 5), (4, 4, 6), (4, 5, 5), (5, 3, 6),
-                           (5, 4, 4), (6, 3, 5), (6, 4, 3), (7, 3, 4), (7, 7, 2)):
+        for p, q, most in ((3, 3, 3), (3, 4, 6), (3, 5, 6), (3, 6, 7), (3, 7, 6), (4, 3, 5), (4, 4, 6), (4, 5, 5),
+                           (5, 3, 6), (5, 4, 4), (6, 3, 5), (6, 4, 3), (7, 3, 4), (7, 7, 2)):
             for n in range(1, most + 1):
                 by_words = codes_by_words(p, q, n)
                 for word in list(by_words)[::1 + len(by_words) // 40]:
@@ -227,6 +228,12 @@ class Counts(unittest.TestCase):
         with mock.patch.object(filling, "MOST_FILLS", 1):
             self.assertEqual(all_fills(4, 4, TWO), [code(DOMINO, (0, 3))])
 
+    def test_fills_ascend(self):
+        # No word within reach is filled by two discs, so two are told here of one word.
+        codes = [one_tile(4), code(DOMINO, (0, 3)), one_tile(3)]
+        with mock.patch.object(filling.Fillings, "codes", lambda self, word: list(codes)):
+            self.assertEqual(all_fills(4, 4, TWO), sorted(codes))
+
     def test_put_first_makes_what_all_fills_tells(self):
         self.assertEqual(put_first(4, 4, ONE, ((2, 0), (3, 0)), []), one_tile(4))
         self.assertEqual([put_first(4, 4, TWO, ((2, 0), (5, 1)), [(one_tile(4), (0, 2))])], all_fills(4, 4, TWO))
@@ -234,8 +241,8 @@ class Counts(unittest.TestCase):
 
 class Filled(unittest.TestCase):
     def test_against_all_words(self):
-        for p, q, b in ((3, 3, 6), (3, 4, 6), (3, 5, 5), (3, 6, 4), (3, 7, 4), (4, 3, 8), (4, 4, 6), (4, 5, 5), (4, 6, 4),
-                        (5, 3, 9), (5, 4, 6), (6, 3, 10), (7, 3, 10), (7, 7, 4)):
+        for p, q, b in ((3, 3, 6), (3, 4, 6), (3, 5, 5), (3, 6, 4), (3, 7, 4), (4, 3, 8), (4, 4, 6), (4, 5, 5),
+                        (4, 6, 4), (5, 3, 9), (5, 4, 6), (6, 3, 10), (7, 3, 10), (7, 7, 4)):
             due = [word for word in itertools.product(range(1, q), repeat=b)
                    if least_turn(word) == word and fills(p, q, word) > 0]
             self.assertTrue(exactly_equal(filled_words(p, q, b), due))

@@ -63,15 +63,17 @@ class Moments(Case):
         self.assertEqual((house.number(), house.elders(2), house.elders(1), house.elders(0)), (2, (1,), (0,), ()))
         self.assertEqual(house.shelf(), {"a": ("gluing", ONE), "w": ("word", (1,) * 4)})
         self.assertEqual([house.shelf_at(0), house.shelf_at(1)], [{}, {"a": ("gluing", ONE)}])
-        for deed, error in ((("tile", "a", 2), BadDeed), (None, BadDeed), (["tile", "a", 4], BadDeed), (("tile", "A", 4), BadName),
-                            (("mirror", "x", "y"), UnknownName), (("mirror", "x", "w"), BadDeed)):
+        for deed, error in ((("tile", "a", 2), BadDeed), (None, BadDeed), (["tile", "a", 4], BadDeed),
+                            (("tile", "A", 4), BadName), (("mirror", "x", "y"), UnknownName),
+                            (("mirror", "x", "w"), BadDeed)):
             self.assert_refused(error, house, house.do, deed)
 
     def test_deeds_are_done_as_on_shelves(self):
         house, shelf = House(), {}
-        for deed in (("gluing", "a", TWO), ("lay", "b", "a", (0, 3), 1, 4), ("rim", "w", "b", (0, 0)), ("fill", "f", "w", 4, 4),
-                     ("mirror", "b", "f"), ("ring", "r", "a", 4, 4, (0, 0)), ("take", "a", "b", 2), ("away", "b"),
-                     ("dual", "d", "r"), ("coil", "c", 7, 3, 8), ("word", "w", WORD)):
+        for deed in (("gluing", "a", TWO), ("lay", "b", "a", (0, 3), 1, 4), ("rim", "w", "b", (0, 0)),
+                     ("fill", "f", "w", 4, 4), ("mirror", "b", "f"), ("ring", "r", "a", 4, 4, (0, 0)),
+                     ("take", "a", "b", 2), ("away", "b"), ("dual", "d", "r"), ("coil", "c", 7, 3, 8),
+                     ("word", "w", WORD)):
             shelf = after(shelf, deed)
             house.do(deed)
             self.assertTrue(exactly_equal(house.shelf(), shelf))
@@ -106,7 +108,8 @@ class Moments(Case):
         self.assertEqual(house.go("side"), 1)
         self.assert_refused(NothingDone, house, house.redo)
         self.assertEqual([house.do(("tile", "c", 5)), house.undo(), house.undo()], [3, 1, 0])
-        self.assertEqual([house.go("main"), house.redo(), house.go("side"), house.redo(), house.redo()], [1, 2, 0, 1, 3])
+        self.assertEqual([house.go("main"), house.redo(), house.go("side"), house.redo(), house.redo()],
+                         [1, 2, 0, 1, 3])
         house.undo()
         house.do(("tile", "d", 5))
         self.assertEqual([house.go("main"), house.undo(), house.go("side")], [2, 1, 4])
@@ -188,8 +191,8 @@ class Branches(Case):
         kept = house.shelf()
         house.go("main")
         self.assertEqual((house.common(5, 8), house.merge("side"), house.elders(9)), (3, 9, (5, 8)))
-        self.assertEqual(house.shelf(), {"a": ("gluing", ((5,), ())), "n": ("gluing", ((6,), ())), "m": ("gluing", ((7,), ())),
-                                         "c": ("gluing", mirrored(BLOCK))})
+        self.assertEqual(house.shelf(), {"a": ("gluing", ((5,), ())), "n": ("gluing", ((6,), ())),
+                                         "m": ("gluing", ((7,), ())), "c": ("gluing", mirrored(BLOCK))})
         house.go("side")
         self.assertEqual((house.number(), house.shelf()), (8, kept))
         # The other branch is behind the present moment now: nothing is to be merged there.
@@ -239,8 +242,8 @@ class Branches(Case):
         tile = ("tile", "a", 5)
         for main, side, names in (([tile], [("tile", "a", 6)], ("a",)), ([tile], [("away", "a")], ("a",)),
                                   ([("away", "a")], [tile], ("a",)), ([("tile", "n", 5)], [("tile", "n", 6)], ("n",)),
-                                  ([("tile", "n", 5), tile, ("away", "c")], [("tile", "c", 3), ("tile", "n", 6), ("tile", "a", 7)],
-                                   ("a", "c", "n")),
+                                  ([("tile", "n", 5), tile, ("away", "c")],
+                                   [("tile", "c", 3), ("tile", "n", 6), ("tile", "a", 7)], ("a", "c", "n")),
                                   ([tile, ("tile", "b", 3)], [tile, ("tile", "b", 4)], ("b",)),
                                   ([("word", "a", (1, 1, 1))], [("tile", "a", 3)], ("a",))):
             house = self.clash_house(main, side)
@@ -249,8 +252,10 @@ class Branches(Case):
     def test_no_clashes(self):
         tile = ("tile", "a", 5)
         for main, side in (([tile], [tile]), ([("away", "a")], [("away", "a")]), ([tile], [("tile", "b", 6)]),
-                           ([tile, ("gluing", "a", ONE)], [("tile", "a", 6)]), ([("tile", "a", 6)], [tile, ("gluing", "a", ONE)]),
-                           ([("tile", "n", 3), ("away", "n")], [("tile", "n", 4)]), ([("tile", "n", 4)], [("tile", "n", 4)])):
+                           ([tile, ("gluing", "a", ONE)], [("tile", "a", 6)]),
+                           ([("tile", "a", 6)], [tile, ("gluing", "a", ONE)]),
+                           ([("tile", "n", 3), ("away", "n")], [("tile", "n", 4)]),
+                           ([("tile", "n", 4)], [("tile", "n", 4)])):
             house = self.clash_house(main, side)
             present, other, base = house.shelf(), house.shelf_at(3 + len(main) + len(side)), house.shelf_at(3)
             house.merge("side")
@@ -293,8 +298,9 @@ class Branches(Case):
         house.go("main")
         self.assertEqual((house.merge("c"), house.elders(6)), (6, (2, 5)))
         self.assertEqual(sorted(house.shelf()), ["a", "m", "n", "o"])
-        self.assertEqual([house.common(6, 3), house.common(5, 2), house.common(4, 3), house.common(6, 6), house.common(6, 5),
-                          house.common(0, 6), house.common(5, 6), house.common(3, 4)], [3, 1, 1, 6, 5, 0, 5, 1])
+        self.assertEqual([house.common(6, 3), house.common(5, 2), house.common(4, 3), house.common(6, 6),
+                          house.common(6, 5), house.common(0, 6), house.common(5, 6),
+                          house.common(3, 4)], [3, 1, 1, 6, 5, 0, 5, 1])
         house.go("b")
         house.do(("tile", "a", 9))
         house.go("main")
@@ -324,7 +330,8 @@ class Branches(Case):
             name = chance.choice(["main", "x", "y", "z"])
             number = at[present]
             if word == "do":
-                deed = chance.choice([("tile", chance.choice("abcd"), chance.randint(3, 5)), ("away", chance.choice("abcd"))])
+                deed = chance.choice([("tile", chance.choice("abcd"), chance.randint(3, 5)),
+                                      ("away", chance.choice("abcd"))])
                 if deed[0] == "away" and deed[1] not in shelves[number]:
                     self.assert_refused(UnknownName, house, house.do, deed)
                 else:
@@ -367,14 +374,14 @@ class Branches(Case):
         if base == other:
             self.assert_refused(NothingDone, house, house.merge, name)
             return
-        changed = [[key for key in "abcd" if shelf.get(key) != shelves[base].get(key)] for shelf in (shelves[number],
-                                                                                                     shelves[other])]
-        clashes = [key for key in changed[0] if key in changed[1] and shelves[number].get(key) != shelves[other].get(key)]
+        ours, theirs, old = shelves[number], shelves[other], shelves[base]
+        changed = [key for key in "abcd" if theirs.get(key) != old.get(key)]
+        clashes = [key for key in changed if ours.get(key) not in (old.get(key), theirs.get(key))]
         if clashes:
             self.assertEqual(self.assert_refused(Clash, house, house.merge, name).names, tuple(clashes))
             return
-        shelf = {key: shelves[number][key] for key in shelves[number] if key not in changed[1]}
-        shelf.update({key: shelves[other][key] for key in changed[1] if key in shelves[other]})
+        shelf = {key: ours[key] for key in ours if key not in changed}
+        shelf.update({key: theirs[key] for key in changed if key in theirs})
         shelves.append(shelf)
         elders.append((number, other))
         at[present], undone[present] = len(shelves) - 1, []
@@ -383,16 +390,20 @@ class Branches(Case):
 
 class Questions(Case):
     def house(self):
-        return house_with(a=TWO, b=BLOCK, c=BAND, d=APART, e=mirrored(BENT), f=BENT, w=WORD, x=(1, 1, 4, 1), y=(1, 1, 1))
+        return house_with(a=TWO, b=BLOCK, c=BAND, d=APART, e=mirrored(BENT), f=BENT, w=WORD, x=(1, 1, 4, 1),
+                          y=(1, 1, 1))
 
     def test_each_question(self):
         house = self.house()
-        for question, due in ((("size", 4, 4, "w"), size_of(4, 4, WORD)), (("size", 4, 4, "y"), size_of(4, 4, (1, 1, 1))),
-                              (("fill", 4, 4, "w"), None), (("fill", 7, 3, "y"), fill(7, 3, (1, 1, 1))),
-                              (("kind", 4, 4, "b"), None), (("kind", 4, 5, "b"), kind_fault(BLOCK, 4, 5)),
-                              (("kind", 4, 4, "d"), kind_fault(APART, 4, 4)), (("kind", 12, 3, "c"), kind_fault(BAND, 12, 3)),
+        for question, due in ((("size", 4, 4, "w"), size_of(4, 4, WORD)),
+                              (("size", 4, 4, "y"), size_of(4, 4, (1, 1, 1))), (("fill", 4, 4, "w"), None),
+                              (("fill", 7, 3, "y"), fill(7, 3, (1, 1, 1))), (("kind", 4, 4, "b"), None),
+                              (("kind", 4, 5, "b"), kind_fault(BLOCK, 4, 5)),
+                              (("kind", 4, 4, "d"), kind_fault(APART, 4, 4)),
+                              (("kind", 12, 3, "c"), kind_fault(BAND, 12, 3)),
                               (("like", "a", "c"), likening(TWO, BAND)), (("like", "a", "a"), likening(TWO, TWO)),
-                              (("like", "e", "f"), likening(mirrored(BENT), BENT)), (("layings", "b"), layings_of(BLOCK))):
+                              (("like", "e", "f"), likening(mirrored(BENT), BENT)),
+                              (("layings", "b"), layings_of(BLOCK))):
             told = house.ask(question)
             if question[:2] == ("fill", 4):
                 self.assertIsNone(judge_fill(4, 4, WORD, told))
@@ -403,10 +414,11 @@ class Questions(Case):
     def test_no_questions(self):
         house = self.house()
         for question in STRANGE + [("size", 4, 4), ("size", 4, 4, "w", 1), ("size", 2, 4, "w"), ("size", 4, 13, "w"),
-                                   ("size", True, 4, "w"), ("size", 4, "4", "w"), ["size", 4, 4, "w"], ("Size", 4, 4, "w"),
-                                   (["size"], 4, 4, "w"), ("fill", 4, 2, "w"), ("fill", 13, 4, "w"), ("fill", 4, None, "w"),
-                                   ("kind", 4, 4), ("kind", 2, 4, "a"), ("like", "a"), ("like", "a", "b", "c"), ("layings",),
-                                   ("layings", "a", "b"), ("tile", "a", 4), ("like", 4, 4, "a"), (), ("size", 4, 2, 7)]:
+                                   ("size", True, 4, "w"), ("size", 4, "4", "w"), ["size", 4, 4, "w"],
+                                   ("Size", 4, 4, "w"), (["size"], 4, 4, "w"), ("fill", 4, 2, "w"),
+                                   ("fill", 13, 4, "w"), ("fill", 4, None, "w"), ("kind", 4, 4), ("kind", 2, 4, "a"),
+                                   ("like", "a"), ("like", "a", "b", "c"), ("layings",), ("layings", "a", "b"),
+                                   ("tile", "a", 4), ("like", 4, 4, "a"), (), ("size", 4, 2, 7)]:
             self.assert_refused(BadDeed, house, house.ask, question)
             self.assert_refused(BadDeed, house, house.keep, "k", question)
 
@@ -419,7 +431,8 @@ class Questions(Case):
                     if not exactly_equal(name, "ab"):
                         error = self.assert_refused(BadName, house, house.ask, (*question[:k], name, *question[k + 1:]))
                         self.assertTrue(exactly_equal(error.name, name))
-                error = self.assert_refused(UnknownName, house, house.ask, (*question[:k], "nowhere", *question[k + 1:]))
+                error = self.assert_refused(UnknownName, house, house.ask,
+                                            (*question[:k], "nowhere", *question[k + 1:]))
                 self.assertEqual(error.name, "nowhere")
         self.assertEqual(self.assert_refused(BadName, house, house.ask, ("like", "nowhere", 7)).name, 7)
         self.assertEqual(self.assert_refused(BadName, house, house.ask, ("like", None, 7)).name, None)
@@ -428,9 +441,10 @@ class Questions(Case):
 
     def test_things_that_are_not_as_they_must_be(self):
         house = self.house()
-        for question in (("size", 4, 4, "a"), ("fill", 4, 4, "a"), ("kind", 4, 4, "w"), ("like", "a", "w"), ("like", "w", "a"),
-                         ("layings", "w"), ("size", 4, 4, "x"), ("fill", 4, 4, "x"), ("fill", 3, 3, "x"), ("like", "d", "a"),
-                         ("like", "a", "d"), ("layings", "c"), ("layings", "d")):
+        for question in (("size", 4, 4, "a"), ("fill", 4, 4, "a"), ("kind", 4, 4, "w"), ("like", "a", "w"),
+                         ("like", "w", "a"), ("layings", "w"), ("size", 4, 4, "x"), ("fill", 4, 4, "x"),
+                         ("fill", 3, 3, "x"), ("like", "d", "a"), ("like", "a", "d"), ("layings", "c"),
+                         ("layings", "d")):
             self.assert_refused(BadDeed, house, house.ask, question)
         self.assertEqual(house.ask(("size", 4, 5, "x")), size_of(4, 5, (1, 1, 4, 1)))
 
@@ -530,7 +544,8 @@ class Papers(Case):
         answers = {"f": house.keep("f", ("fill", 4, 4, "w")), "n": house.keep("n", ("fill", 7, 3, "e")),
                    "l": house.keep("l", ("like", "a", "c")), "u": house.keep("u", ("like", "a", "b")),
                    "y": house.keep("y", ("layings", "b"))}
-        self.assertEqual((answers["f"][0], answers["n"][0], answers["l"][0], answers["u"][0]), ("disc", "barred", "like", "sizes"))
+        self.assertEqual((answers["f"][0], answers["n"][0], answers["l"][0], answers["u"][0]),
+                         ("disc", "barred", "like", "sizes"))
         self.assertEqual([house.today(label) for label in "fnluy"], [None] * 5)
         house.do(("word", "w", WORD))
         self.assertTrue(exactly_equal(house.today("f"), judge_fill(4, 4, WORD, answers["f"])))
@@ -554,6 +569,14 @@ class Papers(Case):
         self.assertIsNone(house.today("y"))
         house.do(("gluing", "a", ONE))
         self.assertEqual(house.today("u"), judge_likening(ONE, mirrored(BLOCK), answers["u"]))
+
+    def test_today_of_fillings_of_a_kind(self):
+        # Three triangles about a corner of the rim: of the kind (3, 6), and not of (6, 6) or (3, 3).
+        house = house_with(w=(3, 1, 2, 2, 1))
+        self.assertEqual(house.keep("k", ("fill", 3, 6, "w"))[0], "disc")
+        self.assertIsNone(house.today("k"))
+        house.do(("word", "w", (1, 1, 1)))
+        self.assertEqual(house.today("k"), ("word", (3, 1, 2, 2, 1)))
 
     def test_today_in_branches(self):
         house = self.house()

@@ -93,7 +93,8 @@ class DueCounts(unittest.TestCase):
         some = 0
         for q in (3, 4, 5, 6):
             for sizes in SIZES:
-                for word in ((1, 1), (1, 2) * 2, (2, 2, 2), (1, 1, 2, 2, 1), (q - 1,) * 6, (1,) * 8, (1, q - 1, 1, 2, 1, 1)):
+                for word in ((1, 1), (1, 2) * 2, (2, 2, 2), (1, 1, 2, 2, 1), (q - 1,) * 6, (1,) * 8,
+                             (1, q - 1, 1, 2, 1, 1)):
                     for n in (1, 2, 4, 6):
                         told = due_counts(q, sizes, word, n)
                         self.assertTrue(exactly_equal(told, counts_tried(q, sizes, word, n)), (q, sizes, word, n))
@@ -140,8 +141,8 @@ class FillWith(unittest.TestCase):
         self.assertIsNone(judge_fill_with(q, sizes, word, n, told))
 
     def test_against_all_odd_discs(self):
-        for q, sizes, most in ((3, (3,), 3), (3, (5, 6), 3), (3, (4, 5), 4), (4, (3, 4), 3), (4, (3, 5), 3), (5, (3, 4), 3),
-                               (5, (3,), 5), (6, (3, 4), 3), (3, (3, 4, 8), 3)):
+        for q, sizes, most in ((3, (3,), 3), (3, (5, 6), 3), (3, (4, 5), 4), (4, (3, 4), 3), (4, (3, 5), 3),
+                               (5, (3, 4), 3), (5, (3,), 5), (6, (3, 4), 3), (3, (3, 4, 8), 3)):
             by_words = odd_discs(q, sizes, most)
             words = sorted({word for words in by_words for word in words})
             for word in words[::1 + len(words) // 40]:
@@ -160,7 +161,8 @@ class FillWith(unittest.TestCase):
         self.assertGreater(barred, 30)
 
     def test_words_that_are_due_nothing(self):
-        for q, sizes, word, n in ((3, (5, 6), (1, 2, 1), 3), (3, (5,), (2, 2), 1), (6, (3,), (5, 5), 2), (4, (8,), (1, 1), 6)):
+        for q, sizes, word, n in ((3, (5, 6), (1, 2, 1), 3), (3, (5,), (2, 2), 1), (6, (3,), (5, 5), 2),
+                                  (4, (8,), (1, 1), 6)):
             self.assertEqual(due_counts(q, sizes, word, n), [])
             self.assertEqual(fill_with(q, sizes, word, n), ("barred", ((word, n),)))
 
@@ -170,7 +172,8 @@ class FillWith(unittest.TestCase):
         self.assert_right(3, (3, 5), (2, 2), 4, told)
         self.assertEqual((told[0], sorted(told[1][0])), ("disc", [3, 3, 5, 5]))
         self.assertEqual(fill_with(3, (3, 5), (2, 2), 3)[0], "barred")
-        for q, sizes, n in ((3, (3, 4), 6), (4, (3,), 6), (5, (3,), 6), (6, (3,), 6), (3, (4, 6), 6), (4, (3, 4, 5), 5)):
+        for q, sizes, n in ((3, (3, 4), 6), (4, (3,), 6), (5, (3,), 6), (6, (3,), 6), (3, (4, 6), 6),
+                            (4, (3, 4, 5), 5)):
             for word in itertools.product(range(1, q), repeat=2):
                 self.assert_right(q, sizes, word, n, fill_with(q, sizes, word, n))
 
@@ -185,6 +188,23 @@ class FillWith(unittest.TestCase):
             less = tuple(sorted([(rest[0], n - 2), (word, n)]))
             for each in (((word, n),), less):
                 self.assertEqual(judge_fill_with(q, sizes, word, n, ("barred", each)), ("open", (word, n)))
+
+    def test_rests_that_are_filled_but_not_together(self):
+        # Squares count for nothing with four at each corner, so each rest is due one tile: but two need two. The first
+        # tile lies between two others on the left and two on the right, the second time with one more upon it.
+        row = ((4,) * 5, (((0, 1), (1, 3)), ((0, 3), (3, 1)), ((1, 1), (2, 3)), ((3, 3), (4, 1))))
+        tee = ((4,) * 6, (((0, 1), (1, 3)), ((0, 2), (5, 0)), ((0, 3), (3, 1)), ((1, 1), (2, 3)), ((3, 3), (4, 1))))
+        # Triangles likewise, with six at each corner: the first one lies between two strips of two.
+        strip = ((3,) * 5, (((0, 1), (1, 0)), ((0, 2), (3, 0)), ((1, 1), (2, 0)), ((3, 2), (4, 0))))
+        for q, gluing in ((4, row), (4, tee), (6, strip)):
+            tiles = len(gluing[0])
+            word = rim_word(gluing, (0, 0))
+            sizes = gluing[0][:1]
+            self.assertEqual(fill_with(q, sizes, word, tiles)[0], "disc")
+            for n in range(1, tiles):
+                told = fill_with(q, sizes, word, n)
+                self.assertEqual(told[0], "barred")
+                self.assert_right(q, sizes, word, n, told)
 
     def test_longer_words(self):
         for q, sizes, word, n in ((3, (5, 6), (1, 2) * 5, 6), (3, (4, 5, 6), (1, 2, 2, 2, 2, 2, 1, 1, 2), 6),
@@ -206,12 +226,13 @@ class Judge(unittest.TestCase):
         for value in (None, good[:2], (*good, 1), list(good), ("disk", *good[1:]), ("disc", [(5,), ()], (0, 3)),
                       ("disc", PENTAGON, (0, 5)), ("disc", PENTAGON, [0, 3]), ("disc", PENTAGON, (False, 3)),
                       ("disc", TWO, (0, 0)), ("disc", TWO, (1, 0)), ("barred", *good[1:]), ("barred",), ("barred", ()),
-                      ("barred", [(word, 2)]), ("barred", ([word, 2],)), ("barred", ((word, 0),)), ("barred", ((word, 3),)),
-                      ("barred", ((word, True),)), ("barred", ((list(word), 2),)), ("barred", (((1,), 2),)),
-                      ("barred", (((), 2),)), ("barred", (((1, 3), 2),)), ("barred", (((1, 0), 2),)),
-                      ("barred", (((1, True), 2),)), ("barred", ((word, 2), (word, 2))), ("barred", ((word, 2), (word, 1))),
-                      ("barred", (((1, 2), 2), ((1, 1), 2))), ("barred", ((word, 2, 2),)), ("barred", (word, 2)),
-                      ("disc", (word, 2)), ("barred", ((word, 2),), 1)):
+                      ("barred", [(word, 2)]), ("barred", ([word, 2],)), ("barred", ((word, 0),)),
+                      ("barred", ((word, 3),)), ("barred", ((word, True),)), ("barred", ((list(word), 2),)),
+                      ("barred", (((1,), 2),)), ("barred", (((), 2),)), ("barred", (((1, 3), 2),)),
+                      ("barred", (((1, 0), 2),)), ("barred", (((1, True), 2),)), ("barred", ((word, 2), (word, 2))),
+                      ("barred", ((word, 2), (word, 1))), ("barred", (((1, 2), 2), ((1, 1), 2))),
+                      ("barred", ((word, 2, 2),)), ("barred", (word, 2)), ("disc", (word, 2)),
+                      ("barred", ((word, 2),), 1)):
             self.assertEqual(judge_fill_with(3, (5, 6), word, 2, value), ("form",), value)
 
     def test_faults_of_discs_in_their_order(self):
@@ -227,6 +248,7 @@ class Judge(unittest.TestCase):
         self.assertEqual(judge_fill_with(3, (3, 4), (1, 1), 2, ("disc", cap, (0, 0))), ("many", 3))
         self.assertEqual(judge_fill_with(3, (3, 4), (1, 1), 3, ("disc", cap, (0, 0))), ("word", (2, 2, 2)))
         self.assertIsNone(judge_fill_with(3, (3, 4), (2, 2, 2), 3, ("disc", cap, (0, 0))))
+        self.assertEqual(judge_fill_with(3, (5, 6), (1, 1), 1, ("disc", TWO, (0, 1))), ("many", 2))
         self.assertEqual(judge_fill_with(3, (5, 6), word[1:] + word[:1], 2, ("disc", TWO, (0, 1))), ("word", word))
         # No rim side can be told of a ball.
         self.assertEqual(judge_fill_with(3, (3,), (1, 1), 2, ("disc", BALL, (0, 0))), ("form",))

@@ -9,9 +9,9 @@ import unittest
 import whatrims
 from tests.helpers import (APART, BAND, BLOCK, FOLDED, NAMED, ONE, PIERCED_TORUS, TETRAHEDRON, TORUS, TWO,
                            exactly_equal)
-from whatrims import (closed, coils, console, corners, deeds, discs, drawn, duals, errors, filling, firsts, floors, forms,
-                      gluings, house, laying, odd, over, parts, pieces, places, plain, rims, ringcounts, rings, sums,
-                      taking, texts, ways)
+from whatrims import (closed, coils, console, corners, deeds, discs, drawn, duals, errors, filling, firsts, floors,
+                      forms, gluings, house, laying, odd, over, parts, pieces, places, plain, rims, ringcounts, rings,
+                      sums, taking, texts, ways)
 from whatrims.errors import BadText, NotLaid
 
 WORD = (1, 2) * 4
@@ -155,7 +155,8 @@ CALLS = (
     (over.near, [7, 3, (2, 3), 2]),
     (over.least_sides, [7, 3, (2, 3), (1, 5)]),
     (over.least_walk, [7, 3, (2, 3), (1, 5)]),
-    (over.judge_walk, [4, 4, (0, 0), (2, 0), [0, 2]], [4, 4, (0, 0), (2, 0), (0, 1)], [4, 4, (0, 0), (2, 0), [[0], {}]]),
+    (over.judge_walk, [4, 4, (0, 0), (2, 0), [0, 2]], [4, 4, (0, 0), (2, 0), (0, 1)],
+     [4, 4, (0, 0), (2, 0), [[0], {}]]),
     (over.patch, [4, 4, [(1, 1), (1, 0)]], [4, 4, ((1, 1), (1, 0))]),
     (over.within_ring, [7, 3, 1]),
     (ways.is_word, [4, 4, WORD], [4, 4, [[1], {"a": [1]}]]),
@@ -233,10 +234,10 @@ is_thing(value); thing_text(thing); after(shelf, deed); deed_text(deed); read_de
 
 # The classes of the interface, with the parameters of their methods.
 METHODS = (
-    (house.House, {"number": [], "shelf": [], "shelf_at": ["number"], "elders": ["number"], "branches": [], "present": [],
-                   "do": ["deed"], "undo": [], "redo": [], "branch": ["name"], "go": ["name"], "merge": ["name"],
-                   "common": ["one", "other"], "ask": ["question"], "keep": ["label", "question"], "labels": [],
-                   "paper": ["label"], "today": ["label"]}),
+    (house.House, {"number": [], "shelf": [], "shelf_at": ["number"], "elders": ["number"], "branches": [],
+                   "present": [], "do": ["deed"], "undo": [], "redo": [], "branch": ["name"], "go": ["name"],
+                   "merge": ["name"], "common": ["one", "other"], "ask": ["question"], "keep": ["label", "question"],
+                   "labels": [], "paper": ["label"], "today": ["label"]}),
     (console.Console, {"house": [], "say": ["line"]}),
 )
 

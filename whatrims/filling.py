@@ -60,7 +60,8 @@ class Fillings:
         found = {word: True}
         waiting = [word]
         while waiting:
-            for _, words in self.ways_of(waiting.pop()):
+            other = waiting.pop()
+            for _, words in self.ways_of(other):
                 if not any([rest in found for rest in words]):
                     barred = self.barred_rest(words)
                     found[barred] = True

@@ -78,16 +78,15 @@ class OddFillings:
 
     def _look(self, word, m):
         """Find out whether there is a disc of m tiles, there being none of fewer."""
-        for way, rests in self._due_ways(word, m):
+        for way, rests in self._due_ways(word, m - 1):
             if self._bars(rests, m - 1) == []:
                 self.found[word] = (m, way, rests)
                 return
         self.barred[word] = m
 
-    def _due_ways(self, word, m):
-        """Return the list of the ways, with their rests, that the sums let be in a disc of m tiles at most."""
+    def _due_ways(self, word, most):
+        """Return the list of the ways, with their rests, that the sums let be with most tiles beside the first one."""
         dues = self.dues
-        most = m - 1
         return list(dues.odd_ways(word, lambda rest: dues.least_due(rest), most))
 
     def _bars(self, rests, most):
@@ -119,7 +118,8 @@ class OddFillings:
         while waiting:
             other = waiting.pop()
             most = members[other] - 1
-            for _, rests in self._due_ways(other, members[other]):
+            ways = self._due_ways(other, most)
+            for _, rests in ways:
                 if sum([_least_open(self.dues, members, rest) for rest in rests]) <= most:
                     for rest, m in self._bars(rests, most):
                         members[rest] = max(m, members.get(rest, 0))
