@@ -29,9 +29,9 @@ def coil_rim(p, q, n):
     # Tile n, in the order from 0 on, is the first one that the coil has not.
     k, j = ring_of_tile(p, q, n)
     inner = _inside_ahead(p, q, k, j)
-    # Each tile closes a corner less than it lies on sides. All but the first one
-    # of a ring lie on the one ahead, too, and the last one on the first one: so
-    # one is missing in a ring that is not whole.
+    # A tile closes one corner fewer than it lies on sides. The tiles of a whole
+    # ring lie on as many sides of one another as there are tiles, those of a
+    # part of it on one fewer.
     if j > 0:
         inner -= 1
     length = rim_length(p, n, inner)

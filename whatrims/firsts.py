@@ -13,8 +13,8 @@ from whatrims.rims import rim_of
 def ways_with_rests(s, q, word, cost, most):
     """Yield the ways of a tile of s sides, ascending, each with the tuple of its rests' words.
 
-    cost(rest) tells what a rest costs, None if it cannot be; of the rests of a
-    way it is most together, or less.
+    cost(rest) tells what a rest costs, None if it cannot be; the rests of a
+    way cost most together, or less.
     """
     # The last part of an entry is the word of a rest that is not paid yet, () if there is none.
     stack = [((), (), most, (1, 1, 0), ())]

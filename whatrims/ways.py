@@ -26,6 +26,7 @@ def mirror_word(word):
 
 def is_good(p, q, word):
     """Return whether the sums let a disc of the kind have this rim word."""
+    # Two letters are no word: no disc of a kind has such a rim, whatever the sums tell.
     return len(word) >= LEAST_LENGTH and size_of(p, q, word)[0] == "size"
 
 
